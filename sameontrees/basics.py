@@ -1,0 +1,46 @@
+"""Integers, ratios, names and tuples: what the other files judge things by."""
+
+from math import gcd
+
+LONGEST_NAME = 10
+WORDS_KEPT = ("fun", "kind", "number")
+
+
+def is_integer(thing):
+    """Whether thing is an integer, which True and False are not."""
+    return isinstance(thing, int) and not isinstance(thing, bool)
+
+
+def is_tuple(thing, least, most):
+    """Whether thing is a tuple of least to most entries."""
+    return isinstance(thing, tuple) and least <= len(thing) <= most
+
+
+def is_ratio(thing):
+    """Whether thing is a ratio: top and bottom without a common divisor above 1."""
+    if not is_tuple(thing, 2, 2):
+        return False
+    top, bottom = thing
+    return is_integer(top) and is_integer(bottom) and bottom >= 1 and gcd(top, bottom) == 1
+
+
+def is_name(thing):
+    """Whether thing is a name, low or high."""
+    if not isinstance(thing, str) or len(thing) > LONGEST_NAME:
+        return False
+    return is_run(thing) and thing[0].isalpha() and thing not in WORDS_KEPT
+
+
+def is_low(thing):
+    """Whether thing is a name that begins with a small letter."""
+    return is_name(thing) and thing[0].islower()
+
+
+def is_high(thing):
+    """Whether thing is a name that begins with a capital letter."""
+    return is_name(thing) and thing[0].isupper()
+
+
+def is_run(text):
+    """Whether text is one or more letters (a to z, A to Z) and digits."""
+    return text.isascii() and text.isalnum()

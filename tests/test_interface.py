@@ -1,0 +1,128 @@
+"""The interface: names, parameters, the files in which things are defined, and point [2]."""
+
+import copy
+import inspect
+import unittest
+
+from sameontrees import programs, trees
+from sameontrees.errors import BadKind, BadKinds, BadProgram, BadRows, BadTree
+from tests.common import BINARY, MIXED, NEVER, is_plain, raised, spoilt
+
+ROWS = (("Leaf", ()), ("Node", (0, 5, 0)))
+WORDS = ("Node", "Leaf", 5, "Leaf")
+PROGRAM = (BINARY, (("sum", "Tree", (
+    ("Leaf", (), ("num", (0, 1))),
+    ("Node", ("l", "n", "r"), ("sum", (("call", "sum", "l"), ("field", "n")))),
+)),))
+TEXT = programs.write_program(PROGRAM)
+
+# Each function with its parameters' names and arguments that are right.
+CALLS = (
+    (trees, "is_kinds", {"thing": BINARY}),
+    (trees, "is_tree", {"kinds": BINARY, "kind": "Tree", "thing": WORDS}),
+    (trees, "is_rows", {"kinds": BINARY, "thing": ROWS}),
+    (trees, "ahead", {"kinds": BINARY, "kind": "Tree", "one": ("Leaf",), "other": WORDS}),
+    (trees, "sizes", {"kinds": BINARY, "rows": ROWS}),
+    (trees, "rows_of", {"kinds": BINARY, "kind": "Tree", "words": WORDS}),
+    (trees, "words_of", {"kinds": BINARY, "rows": ROWS}),
+    (programs, "is_program", {"thing": PROGRAM}),
+    (programs, "write_program", {"program": PROGRAM}),
+    (programs, "read_program", {"text": TEXT}),
+)
+
+ERRORS = {"kinds": BadKinds, "kind": BadKind, "one": BadTree, "other": BadTree,
+          "words": BadTree, "rows": BadRows, "program": BadProgram}
+
+
+def never_as(parameter):
+    """Objects that are never right as the parameter: the name of a kind may be a str."""
+    return [thing for thing in NEVER if parameter != "kind" or not isinstance(thing, str)]
+
+
+class Interface(unittest.TestCase):
+
+    def test_functions_stand_in_their_files_with_their_parameters(self):
+        for module, name, arguments in CALLS:
+            function = getattr(module, name)
+            self.assertTrue(inspect.isfunction(function))
+            self.assertEqual(function.__module__, module.__name__)
+            self.assertEqual(list(inspect.signature(function).parameters), list(arguments))
+
+    def test_calls_by_position_and_by_name_are_equal(self):
+        for module, name, arguments in CALLS:
+            function = getattr(module, name)
+            told = function(*arguments.values())
+            self.assertEqual(function(**arguments), told)
+            backwards = dict(reversed(list(arguments.items())))
+            self.assertEqual(function(**backwards), told)
+
+    def test_results_are_plain_and_equal_calls_tell_the_same(self):
+        for module, name, arguments in CALLS:
+            function = getattr(module, name)
+            told = function(**arguments)
+            self.assertTrue(is_plain(told), name)
+            self.assertEqual(function(**copy.deepcopy(arguments)), told)
+
+    def test_the_results_of_right_arguments(self):
+        told = {name: getattr(module, name)(**arguments) for module, name, arguments in CALLS}
+        for name in ("is_kinds", "is_tree", "is_rows", "ahead", "is_program"):
+            self.assertIs(told[name], True)
+        self.assertEqual(told["sizes"], (1, 3))
+        self.assertEqual(told["rows_of"], ROWS)
+        self.assertEqual(told["words_of"], WORDS)
+        self.assertEqual(told["read_program"], PROGRAM)
+
+
+class WrongArguments(unittest.TestCase):
+
+    def test_each_wrong_argument_raises_its_error(self):
+        for module, name, arguments in CALLS:
+            for parameter, value in arguments.items():
+                if parameter in ERRORS:
+                    for version in (*never_as(parameter), *spoilt(value)):
+                        wrong = {**arguments, parameter: version}
+                        raised(ERRORS[parameter], getattr(module, name), **wrong)
+
+    def test_the_first_wrong_argument_raises(self):
+        for module, name, arguments in CALLS:
+            parameters = list(arguments)
+            for place, first in enumerate(parameters):
+                if first in ERRORS:
+                    wrong = {parameter: None for parameter in parameters[place:]}
+                    raised(ERRORS[first], getattr(module, name), **{**arguments, **wrong})
+
+    def test_kinds_are_looked_at_even_where_any_object_is_judged(self):
+        for kinds in (None, [], (), list(BINARY), (("Tree", ()),), BINARY + BINARY):
+            raised(BadKinds, trees.is_tree, kinds, "Tree", ("Leaf",))
+            raised(BadKinds, trees.is_tree, kinds, "None", None)
+            raised(BadKinds, trees.is_rows, kinds, ROWS)
+            raised(BadKinds, trees.is_rows, kinds, None)
+
+    def test_a_tree_of_another_kind_is_refused(self):
+        one = ("One", 1)
+        raised(BadTree, trees.ahead, MIXED, "Item", ("End",), one)
+        raised(BadTree, trees.ahead, MIXED, "Item", one, ("End",))
+        raised(BadTree, trees.rows_of, MIXED, "List", one)
+        raised(BadKind, trees.rows_of, MIXED, "One", one)
+
+    def test_arguments_stay_as_they_are(self):
+        for module, name, arguments in CALLS:
+            for parameter, value in arguments.items():
+                listed = [value, {"a": [value]}]
+                kept = copy.deepcopy(listed)
+                try:
+                    getattr(module, name)(**{**arguments, parameter: listed})
+                except ValueError:
+                    pass
+                self.assertEqual(listed, kept)
+
+    def test_judges_return_true_or_false(self):
+        for thing in NEVER:
+            self.assertIs(trees.is_kinds(thing), False)
+            self.assertIs(trees.is_tree(BINARY, "Tree", thing), False)
+            self.assertIs(trees.is_rows(BINARY, thing), False)
+            self.assertIs(programs.is_program(thing), False)
+
+
+if __name__ == "__main__":
+    unittest.main()
