@@ -111,21 +111,21 @@ def _words_of_kind(name, makers):
     """The words of a kind."""
     words = ["kind", name, "{"]
     for maker, fields in makers:
-        words.extend([maker, *_words_of_list(fields)])
-    return [*words, "}"]
+        words.extend([maker] + _words_of_list(fields))
+    return words + ["}"]
 
 
 def _words_of_function(name, kind, cases):
     """The words of a function."""
     words = ["fun", name, "(", kind, ")", "{"]
     for maker, names, e in cases:
-        words.extend([maker, *_words_of_list(names), "=", *_words_of_expression(e), ";"])
-    return [*words, "}"]
+        words.extend([maker] + _words_of_list(names) + ["="] + _words_of_expression(e) + [";"])
+    return words + ["}"]
 
 
 def _words_of_list(names):
     """The words of names in brackets."""
-    return ["(", *_with_between([[name] for name in names], ","), ")"]
+    return ["("] + _with_between([[name] for name in names], ",") + [")"]
 
 
 def _words_of_expression(e):
@@ -138,7 +138,7 @@ def _words_of_expression(e):
     if e[0] == "call":
         return [e[1], "(", e[2], ")"]
     sign = "+" if e[0] == "sum" else "*"
-    return ["(", *_with_between([_words_of_expression(part) for part in e[1]], sign), ")"]
+    return ["("] + _with_between([_words_of_expression(part) for part in e[1]], sign) + [")"]
 
 
 def _with_between(runs, sign):
