@@ -1,6 +1,6 @@
-"""Integers, ratios, names and tuples: what the other files judge things by."""
+"""Integers, ratios, names and tuples: what the other files judge things by and count with."""
 
-from math import gcd
+from math import gcd, lcm
 
 LONGEST_NAME = 10
 WORDS_KEPT = ("fun", "kind", "number")
@@ -44,3 +44,42 @@ def is_high(thing):
 def is_run(text):
     """Whether text is one or more letters (a to z, A to Z) and digits."""
     return text.isascii() and text.isalnum()
+
+
+def ratio_of(top, bottom):
+    """The ratio that top is to bottom, which is not 0."""
+    shared = gcd(top, bottom) if bottom > 0 else -gcd(top, bottom)
+    return (top // shared, bottom // shared)
+
+
+def sum_of(ratios):
+    """The sum of the ratios."""
+    tops, bottom = scaled(ratios)
+    return ratio_of(sum(tops), bottom)
+
+
+def product_of(ratios):
+    """The product of the ratios."""
+    top = 1
+    bottom = 1
+    for one, other in ratios:
+        top *= one
+        bottom *= other
+    return ratio_of(top, bottom)
+
+
+def scaled(ratios):
+    """A list of integers and the bottom by which they are the ratios."""
+    bottom = 1
+    for _, part in ratios:
+        bottom = lcm(bottom, part)
+    return ([top * (bottom // part) for top, part in ratios], bottom)
+
+
+def summed(pairs):
+    """A dict with the sum of the ratios for each key of the pairs (key, ratio), 0 left out."""
+    gathered = {}
+    for key, ratio in pairs:
+        gathered.setdefault(key, []).append(ratio)
+    sums = {key: sum_of(ratios) for key, ratios in gathered.items()}
+    return {key: ratio for key, ratio in sums.items() if ratio[0] != 0}

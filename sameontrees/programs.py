@@ -27,8 +27,7 @@ def is_program(thing):
 
 def write_program(program):
     """The text of the program, with one blank between two words."""
-    if not is_program(program):
-        raise BadProgram("this is no program")
+    demand_program(program)
     kinds, functions = program
     words = []
     for name, makers in kinds:
@@ -53,6 +52,12 @@ def read_program(text):
     if not is_program(program):
         raise BadText(len(text))
     return program
+
+
+def demand_program(program):
+    """Raise BadProgram if program is none."""
+    if not is_program(program):
+        raise BadProgram("this is no program")
 
 
 def _is_function(thing):

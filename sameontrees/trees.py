@@ -93,9 +93,7 @@ def rows_of(kinds, kind, words):
     if len(parts) > MOST_ROWS:
         raise TooGreat("the tree has too many unlike parts for rows")
     names = [name for name, _ in kinds]
-    order = sorted(parts, key=lambda part: _place_among_kinds(makers, names, part))
-    index = {part: place for place, part in enumerate(order)}
-    return tuple([(part[0], _indexed(index, parts[part])) for part in order])
+    return _as_rows(parts, sorted(parts, key=lambda part: _place_among_kinds(makers, names, part)))
 
 
 def demand_kinds(kinds):
@@ -137,6 +135,12 @@ def kind_of(makers, maker):
 def fields_of(makers, maker):
     """The fields of the maker."""
     return makers[maker][2]
+
+
+def rows_of_parts(makers, words):
+    """Rows, however many, that have the tree and each of its parts just once, the tree last."""
+    parts = _parts_of(makers, words)
+    return _as_rows(parts, list(parts))
 
 
 def place_in_sequence(makers, words):
@@ -213,7 +217,7 @@ def _joined_within(maker, parts, most):
 def _parts_of(makers, words):
     """A dict with, for the words of each part of the tree, what stands at the part's fields.
 
-    That is an integer or the words of a part.
+    That is an integer or the words of a part, which the dict has ahead.
     """
     parts = {}
     # From the last word to the first: so the fields of a maker are met ahead of it.
@@ -235,6 +239,12 @@ def _place_among_kinds(makers, names, words):
     """What is compared of two trees of any kinds: the size, the kind, the sequence."""
     size, ranks = place_in_sequence(makers, words)
     return (size, names.index(kind_of(makers, words[0])), ranks)
+
+
+def _as_rows(parts, order):
+    """The rows of the parts in the order."""
+    index = {part: place for place, part in enumerate(order)}
+    return tuple([(part[0], _indexed(index, parts[part])) for part in order])
 
 
 def _indexed(index, entries):

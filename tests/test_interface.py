@@ -4,9 +4,10 @@ import copy
 import inspect
 import unittest
 
-from sameontrees import programs, trees
-from sameontrees.errors import BadKind, BadKinds, BadProgram, BadRows, BadTree
-from tests.common import BINARY, MIXED, NEVER, is_plain, raised, spoilt
+from sameontrees import checks, forms, matrices, programs, reached, trees
+from sameontrees.errors import (BadForm, BadKind, BadKinds, BadMatrix, BadName, BadProgram, BadRows,
+                                BadTree, BadVector)
+from tests.common import BINARY, MIXED, NEVER, S, is_plain, raised, spoilt
 
 ROWS = (("Leaf", ()), ("Node", (0, 5, 0)))
 WORDS = ("Node", "Leaf", 5, "Leaf")
@@ -15,6 +16,8 @@ PROGRAM = (BINARY, (("sum", "Tree", (
     ("Node", ("l", "n", "r"), ("sum", (("call", "sum", "l"), ("field", "n")))),
 )),))
 TEXT = programs.write_program(PROGRAM)
+PAIR_ROWS = (("Leaf", ()), ("Node", (0, 0)))
+MATRIX = (((1, 1), (1, 2)), ((0, 1), (3, 1)))
 
 # Each function with its parameters' names and arguments that are right.
 CALLS = (
@@ -28,15 +31,37 @@ CALLS = (
     (programs, "is_program", {"thing": PROGRAM}),
     (programs, "write_program", {"program": PROGRAM}),
     (programs, "read_program", {"text": TEXT}),
+    (checks, "check", {"program": PROGRAM}),
+    (checks, "checked", {"program": PROGRAM}),
+    (checks, "tell", {"program": PROGRAM, "name": "sum", "words": WORDS}),
+    (forms, "is_form", {"thing": S}),
+    (forms, "vectors", {"form": S, "rows": PAIR_ROWS}),
+    (forms, "number", {"form": S, "name": "size", "rows": PAIR_ROWS}),
+    (forms, "formed", {"program": PROGRAM}),
+    (forms, "program_of", {"form": S}),
+    (matrices, "made_of", {"rows": MATRIX, "target": ((0, 1), (2, 1))}),
+    (matrices, "rank", {"rows": MATRIX}),
+    (matrices, "inverse", {"rows": MATRIX}),
+    (matrices, "times_matrix", {"one": MATRIX, "other": MATRIX}),
+    (reached, "reached", {"form": S}),
+    (reached, "closing", {"form": S}),
+    (reached, "is_closing", {"form": S, "thing": reached.closing(S)}),
 )
 
-ERRORS = {"kinds": BadKinds, "kind": BadKind, "one": BadTree, "other": BadTree,
-          "words": BadTree, "rows": BadRows, "program": BadProgram}
+ERRORS = {"kinds": BadKinds, "kind": BadKind, "one": BadTree, "other": BadTree, "words": BadTree,
+          "rows": BadRows, "program": BadProgram, "name": BadName, "form": BadForm}
+ERRORS_OF_MATRICES = {"rows": BadMatrix, "one": BadMatrix, "other": BadMatrix, "target": BadVector}
 
 
-def never_as(parameter):
+def errors_of(module):
+    """The errors that are named for parameters in the module."""
+    return ERRORS_OF_MATRICES if module is matrices else ERRORS
+
+
+def never_as(module, parameter):
     """Objects that are never right as the parameter: the name of a kind may be a str."""
-    return [thing for thing in NEVER if parameter != "kind" or not isinstance(thing, str)]
+    things = [thing for thing in NEVER if parameter != "kind" or not isinstance(thing, str)]
+    return [thing for thing in things if module is not matrices or repr(thing) not in ("()", "((),)")]
 
 
 class Interface(unittest.TestCase):
@@ -65,12 +90,22 @@ class Interface(unittest.TestCase):
 
     def test_the_results_of_right_arguments(self):
         told = {name: getattr(module, name)(**arguments) for module, name, arguments in CALLS}
-        for name in ("is_kinds", "is_tree", "is_rows", "ahead", "is_program"):
+        for name in ("is_kinds", "is_tree", "is_rows", "ahead", "is_program", "is_form", "is_closing"):
             self.assertIs(told[name], True)
         self.assertEqual(told["sizes"], (1, 3))
         self.assertEqual(told["rows_of"], ROWS)
         self.assertEqual(told["words_of"], WORDS)
         self.assertEqual(told["read_program"], PROGRAM)
+        self.assertIsNone(told["check"])
+        self.assertIsNone(told["checked"])
+        self.assertEqual(told["tell"], (5, 1))
+        self.assertEqual(told["vectors"], (((1, 1), (1, 1)), ((1, 1), (3, 1))))
+        self.assertEqual(told["number"], (3, 1))
+        self.assertEqual(told["made_of"], ("made", ((0, 1), (2, 3))))
+        self.assertEqual(told["rank"], 2)
+        self.assertEqual(told["inverse"], (((1, 1), (-1, 6)), ((0, 1), (1, 3))))
+        self.assertEqual(told["times_matrix"], (((1, 1), (2, 1)), ((0, 1), (9, 1))))
+        self.assertEqual(told["reached"], (PAIR_ROWS, ((0, 1),)))
 
 
 class WrongArguments(unittest.TestCase):
@@ -78,18 +113,18 @@ class WrongArguments(unittest.TestCase):
     def test_each_wrong_argument_raises_its_error(self):
         for module, name, arguments in CALLS:
             for parameter, value in arguments.items():
-                if parameter in ERRORS:
-                    for version in (*never_as(parameter), *spoilt(value)):
+                if parameter in errors_of(module):
+                    for version in (*never_as(module, parameter), *spoilt(value)):
                         wrong = {**arguments, parameter: version}
-                        raised(ERRORS[parameter], getattr(module, name), **wrong)
+                        raised(errors_of(module)[parameter], getattr(module, name), **wrong)
 
     def test_the_first_wrong_argument_raises(self):
         for module, name, arguments in CALLS:
             parameters = list(arguments)
             for place, first in enumerate(parameters):
-                if first in ERRORS:
+                if first in errors_of(module):
                     wrong = {parameter: None for parameter in parameters[place:]}
-                    raised(ERRORS[first], getattr(module, name), **{**arguments, **wrong})
+                    raised(errors_of(module)[first], getattr(module, name), **{**arguments, **wrong})
 
     def test_kinds_are_looked_at_even_where_any_object_is_judged(self):
         for kinds in (None, [], (), list(BINARY), (("Tree", ()),), BINARY + BINARY):
@@ -122,6 +157,8 @@ class WrongArguments(unittest.TestCase):
             self.assertIs(trees.is_tree(BINARY, "Tree", thing), False)
             self.assertIs(trees.is_rows(BINARY, thing), False)
             self.assertIs(programs.is_program(thing), False)
+            self.assertIs(forms.is_form(thing), False)
+            self.assertIs(reached.is_closing(S, thing), False)
 
 
 if __name__ == "__main__":

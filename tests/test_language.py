@@ -63,7 +63,8 @@ class Language(unittest.TestCase):
             getattr(node, "name", None) or node.targets[0].id for node in tree.body
             if isinstance(node, (ast.FunctionDef, ast.ClassDef, ast.Assign))}
             for path, tree in trees()}
-        defined["math"] = {"gcd"}
+        defined["math"] = {"gcd", "lcm"}
+        defined["heapq"] = {"heappop", "heappush"}
         for path, tree in trees():
             self.assertEqual(nodes(tree, ast.Import), [])
             for node in nodes(tree, ast.ImportFrom):
@@ -80,8 +81,8 @@ class Language(unittest.TestCase):
             leads = {stem: others for stem, others in leads.items() if stem not in ends}
 
     def test_builtins_methods_and_words(self):
+        own = {node.name for _, tree in trees() for node in nodes(tree, ast.FunctionDef)}
         for path, tree in trees():
-            own = {node.name for node in nodes(tree, ast.FunctionDef)}
             for name in nodes(tree, ast.Name):
                 if hasattr(builtins, name.id):
                     self.assertIn(name.id, BUILTINS, path.name)

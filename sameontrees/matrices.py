@@ -1,0 +1,189 @@
+"""Vectors and matrices of ratios, and what vectors make."""
+
+from sameontrees.basics import is_ratio, is_tuple, ratio_of, scaled
+from sameontrees.errors import BadMatrix, BadVector, Singular, Unlike
+
+MOST_ENTRIES = 48
+
+
+def made_of(rows, target):
+    """("made", weights) by which the rows make the target, or ("apart", marks)."""
+    demand_matrix(rows)
+    if not is_vector(target):
+        raise BadVector("this is no vector")
+    if len(rows) > 0 and len(rows[0]) != len(target):
+        raise Unlike("the target is not as long as the rows")
+    span = Span(len(target))
+    kept = [place for place, row in enumerate(rows) if span.put(row)]
+    weights = span.weights(target)
+    if weights is None:
+        return ("apart", span.marks(target))
+    weight_at = dict(zip(kept, weights))
+    return ("made", tuple([weight_at.get(place, (0, 1)) for place in range(len(rows))]))
+
+
+def rank(rows):
+    """The greatest number of rows of which none is made of the others."""
+    demand_matrix(rows)
+    return rank_of(rows)
+
+
+def inverse(rows):
+    """The matrix whose product with the rows is 1 at equal places and 0 else."""
+    demand_matrix(rows)
+    if not is_square(rows):
+        raise Unlike("the matrix has not as many rows as entries in each")
+    span = Span(len(rows))
+    for row in rows:
+        if not span.put(row):
+            raise Singular("the matrix has no inverse")
+    return span.inverse_of_all()
+
+
+def times_matrix(one, other):
+    """The product of two matrices."""
+    demand_matrix(one)
+    demand_matrix(other)
+    if len(one) > 0 and len(one[0]) != len(other):
+        raise Unlike("one's rows are not as long as other has rows")
+    rows = [scaled(row) for row in one]
+    columns = [scaled(column) for column in zip(*other)]
+    return tuple([tuple([_product_of_scaled(row, column) for column in columns]) for row in rows])
+
+
+def is_vector(thing):
+    """Whether thing is a vector."""
+    return is_tuple(thing, 0, MOST_ENTRIES) and all(is_ratio(entry) for entry in thing)
+
+
+def is_matrix(thing):
+    """Whether thing is a matrix."""
+    if not is_tuple(thing, 0, MOST_ENTRIES) or not all(is_vector(row) for row in thing):
+        return False
+    return len({len(row) for row in thing}) <= 1
+
+
+def is_square(rows):
+    """Whether the matrix has as many rows as entries in each."""
+    return len(rows) == 0 or len(rows[0]) == len(rows)
+
+
+def demand_matrix(rows):
+    """Raise BadMatrix if rows are none."""
+    if not is_matrix(rows):
+        raise BadMatrix("this is no matrix")
+
+
+def rank_of(rows):
+    """The rank of vectors of one length, however many and long."""
+    span = Span(len(rows[0]) if len(rows) > 0 else 0)
+    return len([row for row in rows if span.put(row)])
+
+
+def _product_of_scaled(one, other):
+    """The sum of the products, entry by entry, of two vectors that are scaled to integers."""
+    tops, bottom = one
+    others, below = other
+    return ratio_of(sum([top * factor for top, factor in zip(tops, others)]), bottom * below)
+
+
+class Span:
+    """What vectors of one length make, of which none is made of those put in ahead of it.
+
+    The vectors are kept as integers, each with its bottom, and rows of integers stand for them.
+    The first entries of a row, as many as the width, are a sum of the vectors: total at the row's
+    pivot, 0 at the pivots of the other rows. The entries behind are the weights of this sum.
+    All these are determinants of parts of the vectors, so that divisions by the total ahead leave
+    no rest, and the integers stay as short as can be told beforehand.
+    """
+
+    def __init__(self, width):
+        self.width = width
+        self.total = 1
+        self.pivots = []
+        self.rows = []
+        self.bottoms = []
+
+    def is_full(self):
+        """Whether each vector of the width is made."""
+        return len(self.pivots) == self.width
+
+    def put(self, vector):
+        """Put in a vector of ratios; False, and nothing is put in, if it is made."""
+        tops, bottom = scaled(vector)
+        return self.put_scaled(tops, bottom)
+
+    def put_scaled(self, tops, bottom):
+        """Put in a vector of integers over the bottom; False, and nothing is put in, if made."""
+        if self.is_full():
+            return False
+        fresh = self._rest(tops + [0] * len(self.rows)) + [self.total]
+        pivot = self._first_place(fresh)
+        if pivot is None:
+            return False
+        self.rows = [self._without(row + [0], fresh, pivot) for row in self.rows] + [fresh]
+        self.total = fresh[pivot]
+        self.pivots.append(pivot)
+        self.bottoms.append(bottom)
+        return True
+
+    def makes(self, tops):
+        """Whether the vector of integers is made."""
+        return self.is_full() or not any(self._rest(tops))
+
+    def weights(self, vector):
+        """The weights by which the vectors make a vector of ratios, None if they do not."""
+        tops, bottom = scaled(vector)
+        return self.weights_of_scaled(tops, bottom)
+
+    def weights_of_scaled(self, tops, bottom):
+        """The weights that make a vector of integers over the bottom, None if there are none."""
+        if not self.makes(tops):
+            return None
+        sums = [0] * len(self.rows)
+        for pivot, row in zip(self.pivots, self.rows):
+            if tops[pivot] != 0:
+                sums = [entry + tops[pivot] * weight
+                        for entry, weight in zip(sums, row[self.width:])]
+        return tuple([ratio_of(entry * below, self.total * bottom)
+                      for entry, below in zip(sums, self.bottoms)])
+
+    def marks(self, vector):
+        """A vector whose product with those put in is 0, and with this one, not made, is 1."""
+        tops, bottom = scaled(vector)
+        rest = self._rest(tops)
+        place = self._first_place(rest)
+        marks = [0] * self.width
+        marks[place] = self.total
+        for pivot, row in zip(self.pivots, self.rows):
+            marks[pivot] = -row[place]
+        return tuple([ratio_of(mark * bottom, rest[place]) for mark in marks])
+
+    def inverse_of_all(self):
+        """The inverse of the matrix of the vectors, which are as many as their width."""
+        row_at = dict(zip(self.pivots, self.rows))
+        return tuple([tuple([ratio_of(weight * below, self.total)
+                             for weight, below in zip(row_at[place][self.width:], self.bottoms)])
+                      for place in range(self.width)])
+
+    def _rest(self, tops):
+        """The total times the vector, less the sum of rows by which it is 0 at all pivots."""
+        rest = [self.total * top for top in tops]
+        for pivot, row in zip(self.pivots, self.rows):
+            weight = tops[pivot]
+            if weight != 0:
+                rest = [entry - weight * other for entry, other in zip(rest, row)]
+        return rest
+
+    def _first_place(self, entries):
+        """The first place within the width whose entry is not 0, None if there is none."""
+        for place in range(self.width):
+            if entries[place] != 0:
+                return place
+        return None
+
+    def _without(self, row, fresh, pivot):
+        """The row, less so much of the fresh one that it is 0 at the fresh one's pivot."""
+        top = fresh[pivot]
+        weight = row[pivot]
+        return [(top * entry - weight * other) // self.total for entry, other in zip(row, fresh)]
