@@ -25,7 +25,7 @@ def tell(program, name, words):
     """The ratio that the function with the name tells of the tree."""
     checked(program)
     kinds, functions = program
-    heads = kinds_told(functions)
+    heads = _kinds_of_functions(functions)
     if not isinstance(name, str) or name not in heads:
         raise BadName("this is no name of a function")
     demand_tree(kinds, heads[name], words)
@@ -42,7 +42,7 @@ def tell(program, name, words):
     return told[(name, len(rows) - 1)]
 
 
-def kinds_told(functions):
+def _kinds_of_functions(functions):
     """A dict with the kind of each function."""
     return {name: kind for name, kind, _ in functions}
 
@@ -65,7 +65,7 @@ def _wrong_in_heads(kinds, functions):
 def _wrong_in_cases(kinds, functions):
     """What is wrong first in the cases, the heads being right, None if nothing is."""
     makers = dict(kinds)
-    heads = kinds_told(functions)
+    heads = _kinds_of_functions(functions)
     for name, kind, cases in functions:
         for (_, names, e), (_, fields) in zip(cases, makers[kind]):
             word = _wrong_in_case(heads, fields, names, e)

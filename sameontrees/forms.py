@@ -4,7 +4,7 @@ from math import lcm
 
 from sameontrees.basics import (is_integer, is_low, is_ratio, is_tuple, product_of, ratio_of, sum_of,
                                 summed)
-from sameontrees.checks import checked, kinds_told
+from sameontrees.checks import checked
 from sameontrees.errors import BadForm, BadName, BadRows, TooGreat
 from sameontrees.programs import MOST_FUNCTIONS, MOST_PARTS, is_program
 from sameontrees.trees import demand_rows, is_kinds, kind_of, makers_of

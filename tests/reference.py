@@ -43,21 +43,19 @@ def words_of_nested(tree):
     return tuple(words)
 
 
-def nested_of_rows(rows, index=-1):
-    """The nested tree of a row, where the kinds of CHAIN and others have no number fields."""
-    maker, entries = rows[index]
-    return (maker, tuple(nested_of_rows(rows, entry) for entry in entries))
-
-
 def vector_of_nested(form, tree):
     """The vector of a nested tree, as fractions, by the words of the document."""
-    kinds, dims, maps, _ = form
     maker, entries = tree
-    at, place, fields = makers_in(kinds)[maker]
+    at, place, fields = makers_in(form[0])[maker]
     parts = [[Fraction(1), Fraction(entry)] if field == "number" else vector_of_nested(form, entry)
              for field, entry in zip(fields, entries)]
-    vector = [Fraction(0)] * dims[at]
-    for row, cols, (top, bottom) in maps[at][place]:
+    return put_in(form, at, place, parts)
+
+
+def put_in(form, at, place, parts):
+    """The vector of the maker at the place of the kind over vectors of its fields."""
+    vector = [Fraction(0)] * form[1][at]
+    for row, cols, (top, bottom) in form[2][at][place]:
         value = Fraction(top, bottom)
         for part, col in zip(parts, cols):
             value *= part[col]
@@ -233,17 +231,6 @@ def vectors_of_rows(form, rows):
                  for field, entry in zip(fields, entries)]
         found.append(put_in(form, at, place, parts))
     return found
-
-
-def put_in(form, at, place, parts):
-    """The vector of the maker at the place of the kind over vectors of its fields."""
-    vector = [Fraction(0)] * form[1][at]
-    for row, cols, (top, bottom) in form[2][at][place]:
-        value = Fraction(top, bottom)
-        for part, col in zip(parts, cols):
-            value *= part[col]
-        vector[row] += value
-    return vector
 
 
 def sums_over(form, rows, basis):

@@ -6,7 +6,7 @@ import unittest
 from sameontrees.errors import BadForm, TooGreat
 from sameontrees.reached import closing, is_closing, reached
 from tests import reference
-from tests.common import (MIXED_FORM, NEVER, PAIRS, S, dims_form, full_form, lone_form, raised, spoilt,
+from tests.common import (MIXED_FORM, NEVER, S, dims_form, full_form, lone_form, raised, spoilt,
                           with_part)
 
 ONE = (1, 1)

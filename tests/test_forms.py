@@ -5,7 +5,7 @@ import unittest
 from sameontrees.errors import BadForm
 from sameontrees.forms import is_form, number, program_of, vectors
 from sameontrees.reached import closing, is_closing, reached
-from tests.common import (BINARY, CHAIN, MIXED, MIXED_FORM, NEVER, S, dims_form, great_form,
+from tests.common import (BINARY, CHAIN, MIXED_FORM, NEVER, S, dims_form, great_form,
                           lone_form, raised, spoilt, with_part)
 
 

@@ -72,6 +72,12 @@ class Language(unittest.TestCase):
                     self.assertIn(alias.name, defined[node.module])
                     self.assertIsNone(alias.asname)
 
+    def test_what_is_imported_is_used(self):
+        for path, tree in trees():
+            used = {node.id for node in nodes(tree, ast.Name)}
+            for node in nodes(tree, ast.ImportFrom):
+                self.assertEqual({alias.name for alias in node.names} - used, set(), path.name)
+
     def test_no_files_import_from_each_other(self):
         leads = {path.stem: [node.module.rpartition(".")[2] for node in nodes(tree, ast.ImportFrom)]
                  for path, tree in trees()}

@@ -48,7 +48,7 @@ class Told(unittest.TestCase):
             self.assertLessEqual(len(own), dim)
             self.assertEqual({names[makers[rows[at][0]][0]] for at in own} - {name}, set())
             told = vectors(form, rows) if rows else ()
-            self.assertEqual(reference_rank([told[at] for at in own]), len(own))
+            self.assertEqual(rank(tuple(told[at] for at in own)), len(own))
         for maker, entries in rows:
             for field, entry in zip(makers[maker][2], entries):
                 self.assertTrue(field != "number" or entry in (0, 1))
@@ -187,11 +187,6 @@ class Told(unittest.TestCase):
                   ((0, (0, 0), ONE), (1, (0, 1), great), (2, (1, 1), great))),), ())
         rows, basis = self.judged(form)
         self.assertEqual(len(rows), 3)
-
-
-def reference_rank(rows):
-    """The rank, by the package's matrices where they are not too great."""
-    return rank(tuple(rows))
 
 
 class Bounds(unittest.TestCase):
