@@ -1,5 +1,7 @@
 """Vectors and matrices of ratios, and what vectors make."""
 
+from math import gcd, lcm
+
 from sameontrees.basics import is_ratio, is_tuple, ratio_of, scaled
 from sameontrees.errors import BadMatrix, BadVector, Singular, Unlike
 
@@ -90,16 +92,14 @@ def _product_of_scaled(one, other):
 class Span:
     """What vectors of one length make, of which none is made of those put in ahead of it.
 
-    The vectors are kept as integers, each with its bottom, and rows of integers stand for them.
-    The first entries of a row, as many as the width, are a sum of the vectors: total at the row's
-    pivot, 0 at the pivots of the other rows. The entries behind are the weights of this sum.
-    All these are determinants of parts of the vectors, so that divisions by the total ahead leave
-    no rest, and the integers stay as short as can be told beforehand.
+    The vectors are kept as integers, each over its bottom, and rows of integers stand for them.
+    The first entries of a row, as many as the width, are a sum of the vectors that is 0 at the
+    pivots of all other rows, but not at its own. The entries behind are the weights of this sum.
+    A row has no common divisor, so its integers are as short as what it stands for lets them be.
     """
 
     def __init__(self, width):
         self.width = width
-        self.total = 1
         self.pivots = []
         self.rows = []
         self.bottoms = []
@@ -117,19 +117,22 @@ class Span:
         """Put in a vector of integers over the bottom; False, and nothing is put in, if made."""
         if self.is_full():
             return False
-        fresh = self._rest(tops + [0] * len(self.rows)) + [self.total]
-        pivot = self._first_place(fresh)
+        total, rest = self._rest(tops + [0] * len(self.rows))
+        pivot = self._first_place(rest)
         if pivot is None:
             return False
-        self.rows = [self._without(row + [0], fresh, pivot) for row in self.rows] + [fresh]
-        self.total = fresh[pivot]
+        fresh = without_divisor(rest + [total])
+        self.rows = [_without_pivot(row + [0], fresh, pivot) for row in self.rows] + [fresh]
         self.pivots.append(pivot)
         self.bottoms.append(bottom)
         return True
 
     def makes(self, tops):
         """Whether the vector of integers is made."""
-        return self.is_full() or not any(self._rest(tops))
+        if self.is_full():
+            return True
+        _, rest = self._rest(tops)
+        return not any(rest)
 
     def weights(self, vector):
         """The weights by which the vectors make a vector of ratios, None if they do not."""
@@ -138,42 +141,44 @@ class Span:
 
     def weights_of_scaled(self, tops, bottom):
         """The weights that make a vector of integers over the bottom, None if there are none."""
-        if not self.makes(tops):
+        total, rest = self._rest(tops + [0] * len(self.rows))
+        if self._first_place(rest) is not None:
             return None
-        sums = [0] * len(self.rows)
-        for pivot, row in zip(self.pivots, self.rows):
-            if tops[pivot] != 0:
-                sums = [entry + tops[pivot] * weight
-                        for entry, weight in zip(sums, row[self.width:])]
-        return tuple([ratio_of(entry * below, self.total * bottom)
-                      for entry, below in zip(sums, self.bottoms)])
+        return tuple([ratio_of(-entry * below, total * bottom)
+                      for entry, below in zip(rest[self.width:], self.bottoms)])
 
     def marks(self, vector):
         """A vector whose product with those put in is 0, and with this one, not made, is 1."""
         tops, bottom = scaled(vector)
-        rest = self._rest(tops)
+        total, rest = self._rest(tops)
         place = self._first_place(rest)
-        marks = [0] * self.width
-        marks[place] = self.total
+        marks = [(0, 1)] * self.width
+        marks[place] = ratio_of(bottom * total, rest[place])
         for pivot, row in zip(self.pivots, self.rows):
-            marks[pivot] = -row[place]
-        return tuple([ratio_of(mark * bottom, rest[place]) for mark in marks])
+            marks[pivot] = ratio_of(-row[place] * bottom * total, row[pivot] * rest[place])
+        return tuple(marks)
 
     def inverse_of_all(self):
         """The inverse of the matrix of the vectors, which are as many as their width."""
         row_at = dict(zip(self.pivots, self.rows))
-        return tuple([tuple([ratio_of(weight * below, self.total)
+        return tuple([tuple([ratio_of(weight * below, row_at[place][place])
                              for weight, below in zip(row_at[place][self.width:], self.bottoms)])
                       for place in range(self.width)])
 
     def _rest(self, tops):
-        """The total times the vector, less the sum of rows by which it is 0 at all pivots."""
-        rest = [self.total * top for top in tops]
-        for pivot, row in zip(self.pivots, self.rows):
-            weight = tops[pivot]
-            if weight != 0:
-                rest = [entry - weight * other for entry, other in zip(rest, row)]
-        return rest
+        """A total, and the total times the vector less the sum of rows that leaves 0 at all pivots.
+
+        The vector may have more entries than the width, as the rows have.
+        """
+        used = [(pivot, row) for pivot, row in zip(self.pivots, self.rows) if tops[pivot] != 0]
+        total = 1
+        for pivot, row in used:
+            total = lcm(total, row[pivot])
+        rest = [total * top for top in tops]
+        for pivot, row in used:
+            weight = tops[pivot] * (total // row[pivot])
+            rest = [entry - weight * other for entry, other in zip(rest, row)]
+        return (total, rest)
 
     def _first_place(self, entries):
         """The first place within the width whose entry is not 0, None if there is none."""
@@ -182,8 +187,20 @@ class Span:
                 return place
         return None
 
-    def _without(self, row, fresh, pivot):
-        """The row, less so much of the fresh one that it is 0 at the fresh one's pivot."""
-        top = fresh[pivot]
-        weight = row[pivot]
-        return [(top * entry - weight * other) // self.total for entry, other in zip(row, fresh)]
+
+def without_divisor(entries):
+    """The integers, of which one is not 0, divided by their greatest common divisor."""
+    shared = 0
+    for entry in entries:
+        shared = gcd(shared, entry)
+        if shared == 1:
+            return entries
+    return [entry // shared for entry in entries]
+
+
+def _without_pivot(row, fresh, pivot):
+    """The row, made 0 at the pivot by the fresh row, which is not 0 there."""
+    if row[pivot] == 0:
+        return row
+    times, less = without_divisor([fresh[pivot], row[pivot]])
+    return without_divisor([times * entry - less * other for entry, other in zip(row, fresh)])

@@ -1,12 +1,11 @@
 """The basis trees of a form, and closings, which show that their vectors make those of all trees."""
 
 from heapq import heappop, heappush
-from math import gcd
 
 from sameontrees.basics import is_integer, is_ratio, is_tuple, scaled
 from sameontrees.errors import TooGreat
 from sameontrees.forms import demand_wide_form, vectors_of
-from sameontrees.matrices import Span
+from sameontrees.matrices import Span, without_divisor
 from sameontrees.trees import is_rows, kind_of, makers_of
 
 MOST_MAKERS_OVER_BASIS = 20000
@@ -117,8 +116,7 @@ class Growth:
         own.insert(len(ahead), index)
         self.rows.append(row)
         self.sizes.append(size)
-        shared = gcd_of(vector)
-        self.vectors.append([entry // shared for entry in vector])
+        self.vectors.append(without_divisor(vector))
         self.basis[place].append(index)
 
     def _demand_few_makers(self):
@@ -184,14 +182,6 @@ def scaled_terms(terms):
     """A dict of integers by row and columns, and the bottom by which they are the terms."""
     tops, bottom = scaled([ratio for _, _, ratio in terms])
     return ({(row, cols): top for (row, cols, _), top in zip(terms, tops)}, bottom)
-
-
-def gcd_of(integers):
-    """The greatest common divisor of integers of which one is not 0."""
-    shared = 0
-    for entry in integers:
-        shared = gcd(shared, entry)
-    return shared
 
 
 def many_in_basis(names, basis):

@@ -175,6 +175,20 @@ class Inverse(unittest.TestCase):
         rows = some_matrix(chance, 48, 48, -9, 9, 1)
         self.assertEqual(times_matrix(rows, inverse(rows)), identity(48))
 
+    def test_great_ones_of_forty_digits(self):
+        chance = random.Random(8)
+        least, most = -10 ** 40, 10 ** 40
+        blocks = [[Fraction(chance.randint(least, most), chance.randint(1, most))
+                   if one // 6 == other // 6 else 0 for other in range(48)] for one in range(48)]
+        steps = [[Fraction(chance.randint(least, most), chance.randint(1, most))
+                  if one in (other, other + 1) else 0 for other in range(48)] for one in range(48)]
+        shares = [[Fraction(1, one + other + 1) for other in range(48)] for one in range(48)]
+        for rows in (matrix(*blocks), matrix(*steps), matrix(*shares)):
+            found = inverse(rows)
+            self.assertEqual(times_matrix(rows, found), identity(48))
+            self.assertEqual(rank(rows), 48)
+            self.assertEqual(made_of(rows[1:], rows[0])[0], "apart")
+
     def test_there_is_none(self):
         for rows in (matrix([0]), matrix([1, 2], [2, 4]), matrix([0, 0], [0, 1]),
                      matrix([1, 2, 3], [4, 5, 6], [7, 8, 9]), matrix(*[[1] * 48] * 48)):
