@@ -16,6 +16,11 @@ def is_tuple(thing, least, most):
     return isinstance(thing, tuple) and least <= len(thing) <= most
 
 
+def is_below(thing, limit):
+    """Whether thing is an integer from 0 to below the limit."""
+    return is_integer(thing) and 0 <= thing < limit
+
+
 def is_ratio(thing):
     """Whether thing is a ratio: top and bottom without a common divisor above 1."""
     if not is_tuple(thing, 2, 2):
@@ -66,6 +71,16 @@ def product_of(ratios):
         top *= one
         bottom *= other
     return ratio_of(top, bottom)
+
+
+def times_vector(one, other):
+    """The sum of the products, entry by entry."""
+    return sum_of([product_of(pair) for pair in zip(one, other)])
+
+
+def unit(dim, place):
+    """The vector that is 1 at the place and 0 else."""
+    return tuple([(1, 1) if at == place else (0, 1) for at in range(dim)])
 
 
 def scaled(ratios):

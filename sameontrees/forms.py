@@ -2,8 +2,8 @@
 
 from math import lcm
 
-from sameontrees.basics import (is_integer, is_low, is_ratio, is_tuple, product_of, ratio_of, sum_of,
-                                summed)
+from sameontrees.basics import (is_below, is_low, is_ratio, is_tuple, product_of, ratio_of, sum_of,
+                                summed, times_vector, unit)
 from sameontrees.checks import checked
 from sameontrees.errors import BadForm, BadName, BadRows, TooGreat
 from sameontrees.programs import MOST_FUNCTIONS, MOST_PARTS, is_program
@@ -34,15 +34,7 @@ def vectors(form, rows):
 def number(form, name, rows):
     """The ratio that the read with the name tells of the rows' tree."""
     demand_form(form)
-    kinds, _, _, reads = form
-    read_with = {read[0]: read for read in reads}
-    if not isinstance(name, str) or name not in read_with:
-        raise BadName("this is no name of a read")
-    _, kind, vector = read_with[name]
-    demand_rows(kinds, rows)
-    if kind_of(makers_of(kinds), rows[-1][0]) != kind:
-        raise BadRows("the tree is not of the read's kind")
-    return times_vector(vector, vectors_of(form, rows)[-1])
+    return number_of(form, name, rows)
 
 
 def formed(program):
@@ -109,29 +101,51 @@ def dim_of_kinds(kinds, dims):
     return dim_of
 
 
+def number_of(form, name, rows):
+    """What number returns, of a form that is right."""
+    kinds, _, _, reads = form
+    read_with = {read[0]: read for read in reads}
+    if not isinstance(name, str) or name not in read_with:
+        raise BadName("this is no name of a read")
+    _, kind, vector = read_with[name]
+    demand_rows(kinds, rows)
+    if kind_of(makers_of(kinds), rows[-1][0]) != kind:
+        raise BadRows("the tree is not of the read's kind")
+    return times_vector(vector, vectors_of(form, rows)[-1])
+
+
+def maps_by_maker(form):
+    """A dict with, for each maker's name, its kind's dim, its fields and its terms."""
+    kinds, dims, maps, _ = form
+    return {maker: (dim, fields, terms)
+            for (_, makers), dim, own in zip(kinds, dims, maps)
+            for (maker, fields), terms in zip(makers, own)}
+
+
 def vectors_of(form, rows):
     """The vectors of the trees of rows, which are right or none."""
-    kinds, dims, maps, _ = form
-    terms_of = {maker: (dim, fields, terms)
-                for (_, makers), dim, own in zip(kinds, dims, maps)
-                for (maker, fields), terms in zip(makers, own)}
+    maps = maps_by_maker(form)
     found = []
     for maker, entries in rows:
-        dim, fields, terms = terms_of[maker]
-        parts = [((1, 1), (entry, 1)) if field == "number" else found[entry]
-                 for field, entry in zip(fields, entries)]
-        found.append(_vector(dim, terms, parts))
+        dim, fields, terms = maps[maker]
+        found.append(vector_of_maker(dim, terms, parts_of_entries(found, fields, entries)))
     return tuple(found)
 
 
-def times_vector(one, other):
-    """The sum of the products, entry by entry."""
-    return sum_of([product_of(pair) for pair in zip(one, other)])
+def parts_of_entries(vectors_of_rows, fields, entries):
+    """The vectors of what stands at the fields: integers, or trees of rows of these vectors."""
+    return [((1, 1), (entry, 1)) if field == "number" else vectors_of_rows[entry]
+            for field, entry in zip(fields, entries)]
 
 
-def unit(dim, place):
-    """The vector that is 1 at the place and 0 else."""
-    return tuple([(1, 1) if at == place else (0, 1) for at in range(dim)])
+def vector_of_maker(dim, terms, parts):
+    """The vector that the terms of a maker make of the vectors of its fields."""
+    ratios = [[] for _ in range(dim)]
+    for row, cols, ratio in terms:
+        factors = [part[col] for part, col in zip(parts, cols)]
+        if all(top != 0 for top, _ in factors):
+            ratios[row].append(product_of(factors + [ratio]))
+    return tuple([sum_of(own) for own in ratios])
 
 
 def _is_form_within(thing, bounds):
@@ -142,17 +156,12 @@ def _is_form_within(thing, bounds):
     most, most_together, most_terms = bounds
     if not is_kinds(kinds) or not is_tuple(dims, len(kinds), len(kinds)):
         return False
-    if not all(_is_below(dim, most + 1) for dim in dims) or sum(dims) > most_together:
+    if not all(is_below(dim, most + 1) for dim in dims) or sum(dims) > most_together:
         return False
     dim_of = dim_of_kinds(kinds, dims)
     return (is_tuple(maps, len(kinds), len(kinds))
             and all(_are_maps(dim_of, kind, most_terms, own) for kind, own in zip(kinds, maps))
             and _are_reads(dim_of, reads))
-
-
-def _is_below(thing, limit):
-    """Whether thing is an integer from 0 to below the limit."""
-    return is_integer(thing) and 0 <= thing < limit
 
 
 def _are_maps(dim_of, kind, most_terms, thing):
@@ -178,8 +187,8 @@ def _is_term(dim, widths, thing):
     if not is_tuple(thing, 3, 3):
         return False
     row, cols, ratio = thing
-    return (_is_below(row, dim) and is_tuple(cols, len(widths), len(widths))
-            and all(_is_below(col, width) for col, width in zip(cols, widths))
+    return (is_below(row, dim) and is_tuple(cols, len(widths), len(widths))
+            and all(is_below(col, width) for col, width in zip(cols, widths))
             and is_ratio(ratio) and ratio[0] != 0)
 
 
@@ -198,16 +207,6 @@ def _is_read(dim_of, thing):
     if not is_low(name) or not isinstance(kind, str) or kind not in dim_of or kind == "number":
         return False
     return is_tuple(vector, dim_of[kind], dim_of[kind]) and all(is_ratio(entry) for entry in vector)
-
-
-def _vector(dim, terms, parts):
-    """The vector that the terms of a maker make of the vectors of its fields."""
-    ratios = [[] for _ in range(dim)]
-    for row, cols, ratio in terms:
-        factors = [part[col] for part, col in zip(parts, cols)]
-        if all(top != 0 for top, _ in factors):
-            ratios[row].append(product_of(factors + [ratio]))
-    return tuple([sum_of(own) for own in ratios])
 
 
 def _functions_of(functions, kind):

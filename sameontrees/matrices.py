@@ -2,7 +2,7 @@
 
 from math import gcd, lcm
 
-from sameontrees.basics import is_ratio, is_tuple, ratio_of, scaled
+from sameontrees.basics import is_ratio, is_tuple, ratio_of, scaled, unit
 from sameontrees.errors import BadMatrix, BadVector, Singular, Unlike
 
 MOST_ENTRIES = 48
@@ -35,11 +35,10 @@ def inverse(rows):
     demand_matrix(rows)
     if not is_square(rows):
         raise Unlike("the matrix has not as many rows as entries in each")
-    span = Span(len(rows))
-    for row in rows:
-        if not span.put(row):
-            raise Singular("the matrix has no inverse")
-    return span.inverse_of_all()
+    found = inverse_of(rows)
+    if found is None:
+        raise Singular("the matrix has no inverse")
+    return found
 
 
 def times_matrix(one, other):
@@ -48,9 +47,7 @@ def times_matrix(one, other):
     demand_matrix(other)
     if len(one) > 0 and len(one[0]) != len(other):
         raise Unlike("one's rows are not as long as other has rows")
-    rows = [scaled(row) for row in one]
-    columns = [scaled(column) for column in zip(*other)]
-    return tuple([tuple([_product_of_scaled(row, column) for column in columns]) for row in rows])
+    return product_of_matrices(one, other)
 
 
 def is_vector(thing):
@@ -70,10 +67,45 @@ def is_square(rows):
     return len(rows) == 0 or len(rows[0]) == len(rows)
 
 
+def is_square_of(thing, dim):
+    """Whether thing is a matrix with so many rows and as many entries in each."""
+    return is_matrix(thing) and len(thing) == dim and is_square(thing)
+
+
 def demand_matrix(rows):
     """Raise BadMatrix if rows are none."""
     if not is_matrix(rows):
         raise BadMatrix("this is no matrix")
+
+
+def inverse_of(rows):
+    """The inverse of a square matrix, None if there is none."""
+    span = Span(len(rows))
+    if not all([span.put(row) for row in rows]):
+        return None
+    return span.inverse_of_all()
+
+
+def product_of_matrices(one, other):
+    """The product of two matrices that fit each other."""
+    rows = [scaled(row) for row in one]
+    columns = [scaled(column) for column in zip(*other)]
+    return tuple([tuple([_product_of_scaled(row, column) for column in columns]) for row in rows])
+
+
+def transposed(rows, width):
+    """The matrix whose rows are the columns of this one, which are as many as the width."""
+    return tuple([tuple([row[at] for row in rows]) for at in range(width)])
+
+
+def identity(dim):
+    """The matrix that changes no vector of the dim."""
+    return tuple([unit(dim, place) for place in range(dim)])
+
+
+def are_inverse(one, other):
+    """Whether the product of two square matrices with equally many rows is the identity."""
+    return product_of_matrices(one, other) == identity(len(one))
 
 
 def rank_of(rows):
@@ -164,6 +196,13 @@ class Span:
         return tuple([tuple([ratio_of(weight * below, row_at[place][place])
                              for weight, below in zip(row_at[place][self.width:], self.bottoms)])
                       for place in range(self.width)])
+
+    def reduced(self):
+        """The matrix of the rows, each 1 at its own pivot, ascending by pivots."""
+        row_at = dict(zip(self.pivots, self.rows))
+        return tuple([tuple([ratio_of(entry, row_at[pivot][pivot])
+                             for entry in row_at[pivot][:self.width]])
+                      for pivot in sorted(self.pivots)])
 
     def _rest(self, tops):
         """A total, and the total times the vector less the sum of rows that leaves 0 at all pivots.

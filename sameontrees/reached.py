@@ -2,11 +2,11 @@
 
 from heapq import heappop, heappush
 
-from sameontrees.basics import is_integer, is_ratio, is_tuple, scaled
-from sameontrees.errors import TooGreat
+from sameontrees.basics import is_below, is_ratio, is_tuple, scaled
+from sameontrees.errors import BadRows, TooGreat
 from sameontrees.forms import demand_wide_form, vectors_of
 from sameontrees.matrices import Span, without_divisor
-from sameontrees.trees import is_rows, kind_of, makers_of
+from sameontrees.trees import is_rows, kind_of, makers_of, trees_among
 
 MOST_MAKERS_OVER_BASIS = 20000
 # A number field tells 1 and the integer; what 0 and 1 tell makes what all others do.
@@ -23,19 +23,24 @@ def closing(form):
     """What reached tells, and how each maker over basis trees is made of basis trees."""
     demand_wide_form(form)
     rows, basis = reached_of(form)
-    return (rows, basis, _sums(form, rows, basis))
+    return (rows, basis, sums_over(form, rows, basis))
 
 
 def is_closing(form, thing):
     """Whether thing is a closing of the form, with whatever basis trees."""
     demand_wide_form(form)
+    return is_closing_of(form, thing)
+
+
+def is_closing_of(form, thing):
+    """What is_closing returns, of a form that is right."""
     if not is_tuple(thing, 3, 3):
         return False
     rows, basis, sums = thing
     kinds = form[0]
     if not is_rows_or_none(kinds, rows) or not _is_basis(kinds, rows, basis):
         return False
-    return _are_sums(kinds, basis, sums) and sums == _sums(form, rows, basis)
+    return _are_sums(kinds, basis, sums) and sums == sums_over(form, rows, basis)
 
 
 def reached_of(form):
@@ -50,6 +55,28 @@ def reached_of(form):
 def is_rows_or_none(kinds, thing):
     """Whether thing is rows or (), the rows of no trees."""
     return is_tuple(thing, 0, 0) or is_rows(kinds, thing)
+
+
+def demand_rows_or_none(kinds, rows):
+    """Raise BadRows if rows are neither rows of the kinds nor ()."""
+    if not is_rows_or_none(kinds, rows):
+        raise BadRows("these are no rows of the kinds")
+
+
+def kinds_of_rows(kinds, rows):
+    """A list of the kinds of the rows' trees."""
+    makers = makers_of(kinds)
+    return [kind_of(makers, maker) for maker, _ in rows]
+
+
+def is_index(found, kind, thing):
+    """Whether thing is the index of a row of the kind, found being the rows' kinds."""
+    return is_below(thing, len(found)) and found[thing] == kind
+
+
+def are_indexes(found, kind, thing):
+    """Whether thing is a tuple of indexes of rows of the kind, found being the rows' kinds."""
+    return isinstance(thing, tuple) and all([is_index(found, kind, index) for index in thing])
 
 
 class Growth:
@@ -157,7 +184,7 @@ class Growth:
             return
         for entries, vector in spread(span.width, self.terms[maker], places, choices):
             if not span.makes(vector):
-                parts = [entry for field, entry in zip(fields, entries) if field != "number"]
+                parts = trees_among(fields, entries)
                 self._wait(1 + sum([self.sizes[part] for part in parts]), (maker, entries), vector)
 
     def _wait(self, size, row, vector):
@@ -232,15 +259,8 @@ def _is_basis(kinds, rows, thing):
     """Whether thing has, for each kind, a tuple of indexes of rows of trees of the kind."""
     if not is_tuple(thing, len(kinds), len(kinds)):
         return False
-    makers = makers_of(kinds)
-    kinds_of_rows = [kind_of(makers, maker) for maker, _ in rows]
-    return all([isinstance(own, tuple) and all([_is_index(kinds_of_rows, name, at) for at in own])
-                for (name, _), own in zip(kinds, thing)])
-
-
-def _is_index(kinds_of_rows, kind, thing):
-    """Whether thing is the index of a row of the kind."""
-    return is_integer(thing) and 0 <= thing < len(kinds_of_rows) and kinds_of_rows[thing] == kind
+    found = kinds_of_rows(kinds, rows)
+    return all([are_indexes(found, name, own) for (name, _), own in zip(kinds, thing)])
 
 
 def _are_sums(kinds, basis, thing):
@@ -265,7 +285,7 @@ def _is_weights(many, thing):
     return is_tuple(thing, many, many) and all(is_ratio(weight) for weight in thing)
 
 
-def _sums(form, rows, basis):
+def sums_over(form, rows, basis):
     """The sums of a closing over the basis, None if its trees do not make what they should."""
     kinds, dims, maps, _ = form
     told = [scaled(vector) for vector in vectors_of(form, rows)]

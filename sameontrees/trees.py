@@ -58,9 +58,8 @@ def sizes(kinds, rows):
     makers = makers_of(kinds)
     found = []
     for maker, entries in rows:
-        fields = fields_of(makers, maker)
-        parts = [found[entry] for field, entry in zip(fields, entries) if field != "number"]
-        found.append(1 + sum(parts))
+        parts = trees_among(fields_of(makers, maker), entries)
+        found.append(1 + sum([found[part] for part in parts]))
     return tuple(found)
 
 
@@ -135,6 +134,33 @@ def kind_of(makers, maker):
 def fields_of(makers, maker):
     """The fields of the maker."""
     return makers[maker][2]
+
+
+def trees_among(fields, entries):
+    """A list of the entries that stand for trees, not for integers."""
+    return [entry for field, entry in zip(fields, entries) if field != "number"]
+
+
+def with_trees(fields, entries, exchange):
+    """The entries, with what exchange has at each that stands for a tree in its place."""
+    return tuple([entry if field == "number" else exchange[entry]
+                  for field, entry in zip(fields, entries)])
+
+
+def rows_of_tree(makers, rows, index):
+    """Those of the rows that are parts of the tree at the index, and itself, in their order."""
+    led_to = {index: True}
+    waiting = [index]
+    while waiting:
+        maker, entries = rows[waiting.pop()]
+        for part in trees_among(fields_of(makers, maker), entries):
+            if part not in led_to:
+                led_to[part] = True
+                waiting.append(part)
+    order = sorted(led_to)
+    place_of = {at: place for place, at in enumerate(order)}
+    return tuple([(maker, with_trees(fields_of(makers, maker), entries, place_of))
+                  for maker, entries in [rows[at] for at in order]])
 
 
 def rows_of_parts(makers, words):

@@ -86,6 +86,11 @@ S = (PAIRS, (2,), ((((0, (), (1, 1)), (1, (), (1, 1))),
                     ((0, (0, 0), (1, 1)), (1, (0, 0), (1, 1)), (1, (0, 1), (1, 1)),
                      (1, (1, 0), (1, 1)))),), (("size", "Tree", ((0, 1), (1, 1))),))
 
+# Part I's example: coordinate 1 is the number of leaves.
+LEAVES = (PAIRS, (2,), ((((0, (), (1, 1)), (1, (), (1, 1))),
+                         ((0, (0, 0), (1, 1)), (1, (0, 1), (1, 1)), (1, (1, 0), (1, 1)))),),
+          (("size", "Tree", ((0, 1), (1, 1))),))
+
 # A form with number fields, two kinds and fractions.
 MIXED_FORM = (
     MIXED, (2, 3),

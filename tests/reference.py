@@ -249,3 +249,155 @@ def sums_over(form, rows, basis):
             of_kind.append(tuple(tuple(map(ratio, one)) for one in weights))
         sums.append(tuple(of_kind))
     return tuple(sums)
+
+
+def nested_rows(kinds, rows):
+    """The nested trees of rows."""
+    makers = makers_in(kinds)
+    found = []
+    for maker, entries in rows:
+        fields = makers[maker][2]
+        found.append((maker, tuple(entry if field == "number" else found[entry]
+                                   for field, entry in zip(fields, entries))))
+    return found
+
+
+def rows_of_nested(kinds, tree):
+    """Rows of a nested tree, each part once."""
+    found = {}
+
+    def put(part):
+        maker, entries = part
+        row = (maker, tuple(put(entry) if isinstance(entry, tuple) else entry for entry in entries))
+        return found.setdefault(row, len(found))
+
+    put(tree)
+    return tuple(found)
+
+
+def plugged(kinds, rows, context, tree):
+    """The nested tree that has the nested tree in the hole of the context over rows."""
+    trees = nested_rows(kinds, rows)
+    makers = makers_in(kinds)
+    for maker, place, entries in reversed(context[1]):
+        fields = makers[maker][2]
+        others = fields[:place] + fields[place + 1:]
+        parts = [entry if field == "number" else trees[entry]
+                 for field, entry in zip(others, entries)]
+        tree = (maker, (*parts[:place], tree, *parts[place:]))
+    return tree
+
+
+def number_in_context(form, rows, context, tree):
+    """The fraction that the context over rows tells of the nested tree, put in its hole."""
+    return number_of_nested(form, form[3][context[0]][0], plugged(form[0], rows, context, tree))
+
+
+def all_trees(kinds, most, integers):
+    """A dict: for each kind its nested trees to the size, in sequence."""
+    found = {}
+    for kind, _ in kinds:
+        found[kind] = []
+        for size in range(1, most + 1):
+            of_size = trees_of_size(kinds, kind, size, integers)
+            found[kind].extend(sorted(of_size, key=lambda one: place_of_words(kinds, one)))
+    return found
+
+
+def independent(vectors):
+    """Those of the vectors that are not made of those ahead of them."""
+    kept = []
+    for vector in vectors:
+        if weights_of(kept, vector) is None:
+            kept.append(vector)
+    return kept
+
+
+def behind_step(form, at, place, hole, covector, parts):
+    """The covector behind a step, with vectors for the other fields, as fractions."""
+    name = form[0][at][1][place][1][hole]
+    dim = dict(zip([kind for kind, _ in form[0]], form[1]))[name]
+    told = [Fraction(0)] * dim
+    for row, cols, (top, bottom) in form[2][at][place]:
+        value = Fraction(top, bottom) * covector[row]
+        for part, col in zip(parts, cols[:hole] + cols[hole + 1:]):
+            value *= part[col]
+        told[cols[hole]] += value
+    return told
+
+
+def seen_covectors(form, most, integers):
+    """For each kind covectors that make those of all contexts over trees to the size."""
+    kinds = form[0]
+    names = [kind for kind, _ in kinds]
+    vectors = {kind: independent([vector_of_nested(form, tree) for tree in trees])
+               for kind, trees in all_trees(kinds, most, integers).items()}
+    vectors["number"] = [[Fraction(1), Fraction(one)] for one in integers]
+    found = {kind: [] for kind in names}
+    waiting = [(kind, as_fractions(vector)) for _, kind, vector in form[3]]
+    while waiting:
+        kind, covector = waiting.pop(0)
+        if weights_of(found[kind], covector) is not None:
+            continue
+        found[kind].append(covector)
+        at = names.index(kind)
+        for place, (_, fields) in enumerate(kinds[at][1]):
+            for hole, field in enumerate(fields):
+                others = fields[:hole] + fields[hole + 1:]
+                if field != "number":
+                    waiting.extend((field, behind_step(form, at, place, hole, covector, parts))
+                                   for parts in itertools.product(*[vectors[one] for one in others]))
+    return [found[kind] for kind in names]
+
+
+def product_with(one, other):
+    """The sum of the products, entry by entry."""
+    return sum((left * right for left, right in zip(one, other)), Fraction(0))
+
+
+def state_trees(form, most, integers):
+    """For each kind its state trees to the size, found by asking all trees in sequence."""
+    trees = all_trees(form[0], most, integers)
+    found = []
+    for (kind, _), covectors in zip(form[0], seen_covectors(form, most, integers)):
+        kept, told = [], []
+        for tree in trees[kind]:
+            vector = vector_of_nested(form, tree)
+            marks = [product_with(covector, vector) for covector in covectors]
+            if weights_of(told, marks) is None:
+                kept.append(tree)
+                told.append(marks)
+        found.append(kept)
+    return found
+
+
+def least_by_trees(form, most, integers):
+    """The least form, found by asking all trees to the size in sequence."""
+    kinds, _, _, reads = form
+    covectors = dict(zip([kind for kind, _ in kinds], seen_covectors(form, most, integers)))
+    trees = dict(zip([kind for kind, _ in kinds], state_trees(form, most, integers)))
+
+    def marks(kind, vector):
+        return [product_with(covector, vector) for covector in covectors[kind]]
+
+    table = {kind: [marks(kind, vector_of_nested(form, tree)) for tree in own]
+             for kind, own in trees.items()}
+    parts = {kind: [vector_of_nested(form, tree) for tree in own] for kind, own in trees.items()}
+    # At the column 1 of a number field what 1 makes less what 0 makes.
+    parts["number"] = [[Fraction(1), Fraction(0)], [Fraction(0), Fraction(1)]]
+    maps = []
+    for at, (kind, makers) in enumerate(kinds):
+        own = []
+        for place, (_, fields) in enumerate(makers):
+            terms = []
+            for cols in itertools.product(*[range(len(parts[field])) for field in fields]):
+                vector = put_in(form, at, place, [parts[field][col]
+                                                  for field, col in zip(fields, cols)])
+                weights = weights_of(table[kind], marks(kind, vector))
+                terms.extend((row, cols, ratio(weight)) for row, weight in enumerate(weights)
+                             if weight != 0)
+            own.append(tuple(sorted(terms)))
+        maps.append(tuple(own))
+    told = tuple((name, kind, tuple(ratio(product_with(as_fractions(vector), part))
+                                    for part in parts[kind])) for name, kind, vector in reads)
+    return (kinds, tuple(len(trees[kind]) for kind, _ in kinds), tuple(maps), told)

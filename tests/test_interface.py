@@ -4,10 +4,14 @@ import copy
 import inspect
 import unittest
 
-from sameontrees import checks, forms, matrices, programs, reached, trees
-from sameontrees.errors import (BadForm, BadKind, BadKinds, BadMatrix, BadName, BadProgram, BadRows,
-                                BadTree, BadVector)
-from tests.common import BINARY, MIXED, NEVER, S, is_plain, raised, spoilt
+from sameontrees import (checks, equal, forms, least, logs, matrices, programs, reached, seen,
+                         trees)
+from sameontrees.errors import (BadContext, BadForm, BadKind, BadKinds, BadLog, BadMatrix, BadName,
+                                BadProgram, BadRows, BadTree, BadVector)
+from tests.common import BINARY, LEAVES, MIXED, NEVER, S, is_plain, raised, spoilt
+from tests.test_least import LEAST_S
+from tests.test_steps import COPIES, TWICE
+from tests.test_tables import EXAMPLE
 
 ROWS = (("Leaf", ()), ("Node", (0, 5, 0)))
 WORDS = ("Node", "Leaf", 5, "Leaf")
@@ -18,6 +22,7 @@ PROGRAM = (BINARY, (("sum", "Tree", (
 TEXT = programs.write_program(PROGRAM)
 PAIR_ROWS = (("Leaf", ()), ("Node", (0, 0)))
 MATRIX = (((1, 1), (1, 2)), ((0, 1), (3, 1)))
+CONTEXT = (0, (("Node", 0, (1,)), ("Node", 1, (0,))))
 
 # Each function with its parameters' names and arguments that are right.
 CALLS = (
@@ -46,22 +51,48 @@ CALLS = (
     (reached, "reached", {"form": S}),
     (reached, "closing", {"form": S}),
     (reached, "is_closing", {"form": S, "thing": reached.closing(S)}),
+    (seen, "covector", {"form": S, "rows": PAIR_ROWS, "context": CONTEXT}),
+    (seen, "seen", {"form": S}),
+    (seen, "is_seen", {"form": S, "thing": seen.seen(S)}),
+    (least, "least", {"form": S}),
+    (least, "tables", {"form": S}),
+    (least, "is_table", {"form": S, "rows": PAIR_ROWS, "kind": "Tree", "thing": EXAMPLE}),
+    (least, "between", {"one": S, "other": LEAST_S}),
+    (least, "is_between", {"one": S, "other": LEAST_S, "thing": least.between(S, LEAST_S)}),
+    (logs, "stepped", {"form": COPIES, "step": TWICE}),
+    (logs, "replayed", {"form": COPIES, "log": (TWICE,)}),
+    (equal, "joint", {"one": S, "other": COPIES}),
+    (equal, "same", {"one": S, "other": COPIES}),
+    (equal, "is_same", {"one": S, "other": COPIES, "thing": equal.same(S, COPIES)[1]}),
+    (equal, "is_part", {"one": S, "other": LEAVES, "thing": ("size", PAIR_ROWS, (3, 1), (2, 1))}),
+    (equal, "same_log", {"one": S, "other": COPIES}),
 )
 
 ERRORS = {"kinds": BadKinds, "kind": BadKind, "one": BadTree, "other": BadTree, "words": BadTree,
-          "rows": BadRows, "program": BadProgram, "name": BadName, "form": BadForm}
+          "rows": BadRows, "program": BadProgram, "name": BadName, "form": BadForm,
+          "context": BadContext}
 ERRORS_OF_MATRICES = {"rows": BadMatrix, "one": BadMatrix, "other": BadMatrix, "target": BadVector}
+ERRORS_OF_FORMS = {**ERRORS, "one": BadForm, "other": BadForm}
 
 
 def errors_of(module):
     """The errors that are named for parameters in the module."""
-    return ERRORS_OF_MATRICES if module is matrices else ERRORS
+    if module is matrices:
+        return ERRORS_OF_MATRICES
+    return ERRORS if module is trees else ERRORS_OF_FORMS
 
 
 def never_as(module, parameter):
-    """Objects that are never right as the parameter: the name of a kind may be a str."""
+    """Objects that are never right as the parameter.
+
+    The name of a kind may be a str, and () the rows of no trees, or a matrix.
+    """
     things = [thing for thing in NEVER if parameter != "kind" or not isinstance(thing, str)]
-    return [thing for thing in things if module is not matrices or repr(thing) not in ("()", "((),)")]
+    if module is matrices:
+        return [thing for thing in things if repr(thing) not in ("()", "((),)")]
+    if module in (seen, least) and parameter == "rows":
+        return [thing for thing in things if repr(thing) != "()"]
+    return things
 
 
 class Interface(unittest.TestCase):
@@ -90,7 +121,8 @@ class Interface(unittest.TestCase):
 
     def test_the_results_of_right_arguments(self):
         told = {name: getattr(module, name)(**arguments) for module, name, arguments in CALLS}
-        for name in ("is_kinds", "is_tree", "is_rows", "ahead", "is_program", "is_form", "is_closing"):
+        for name in ("is_kinds", "is_tree", "is_rows", "ahead", "is_program", "is_form", "is_closing",
+                     "is_seen", "is_table", "is_between", "is_same", "is_part"):
             self.assertIs(told[name], True)
         self.assertEqual(told["sizes"], (1, 3))
         self.assertEqual(told["rows_of"], ROWS)
@@ -106,6 +138,11 @@ class Interface(unittest.TestCase):
         self.assertEqual(told["inverse"], (((1, 1), (-1, 6)), ((0, 1), (1, 3))))
         self.assertEqual(told["times_matrix"], (((1, 1), (2, 1)), ((0, 1), (9, 1))))
         self.assertEqual(told["reached"], (PAIR_ROWS, ((0, 1),)))
+        self.assertEqual(told["covector"], ((6, 1), (1, 1)))
+        self.assertEqual(told["least"], LEAST_S)
+        self.assertEqual(told["stepped"], S)
+        self.assertEqual(told["replayed"], S)
+        self.assertEqual(logs.replayed(S, told["same_log"]), COPIES)
 
 
 class WrongArguments(unittest.TestCase):
@@ -151,8 +188,18 @@ class WrongArguments(unittest.TestCase):
                     pass
                 self.assertEqual(listed, kept)
 
+    def test_logs_of_whatever_else(self):
+        for thing in NEVER:
+            if not isinstance(thing, tuple):
+                raised(BadLog, logs.replayed, S, thing)
+
     def test_judges_return_true_or_false(self):
         for thing in NEVER:
+            self.assertIs(seen.is_seen(S, thing), False)
+            self.assertIs(least.is_table(S, PAIR_ROWS, "Tree", thing), False)
+            self.assertIs(least.is_between(S, S, thing), False)
+            self.assertIs(equal.is_same(S, S, thing), False)
+            self.assertIs(equal.is_part(S, S, thing), False)
             self.assertIs(trees.is_kinds(thing), False)
             self.assertIs(trees.is_tree(BINARY, "Tree", thing), False)
             self.assertIs(trees.is_rows(BINARY, thing), False)

@@ -102,6 +102,30 @@ class Language(unittest.TestCase):
                     if isinstance(word, str) and "\n" not in word and " " not in word:
                         self.assertIsNone(BARRED.search(word), word)
 
+    def test_local_names_are_not_those_of_imports_and_classes(self):
+        for path, tree in trees():
+            barred = {alias.name for node in nodes(tree, ast.ImportFrom) for alias in node.names}
+            barred |= {node.name for node in nodes(tree, ast.ClassDef)}
+            barred |= {node.name for node in tree.body if isinstance(node, ast.FunctionDef)}
+            stored = {node.id for node in nodes(tree, ast.Name) if isinstance(node.ctx, ast.Store)}
+            stored |= {node.arg for node in nodes(tree, ast.arg)}
+            stored |= {node.name for node in nodes(tree, ast.ExceptHandler)}
+            self.assertEqual(stored & barred, set(), path.name)
+
+    def test_no_name_is_a_method_and_an_attribute(self):
+        methods = {node.name for _, tree in trees() for cls in nodes(tree, ast.ClassDef)
+                   for node in nodes(cls, ast.FunctionDef)}
+        attributes = {node.attr for _, tree in trees() for node in nodes(tree, ast.Attribute)
+                      if isinstance(node.ctx, ast.Store)}
+        self.assertEqual(methods & attributes, set())
+
+    def test_generator_expressions_stand_in_calls_of_a_few(self):
+        for path, tree in trees():
+            held = [arg for call in nodes(tree, ast.Call) for arg in call.args
+                    if isinstance(arg, ast.GeneratorExp) and isinstance(call.func, ast.Name)
+                    and call.func.id in ("any", "all", "sum", "min", "max", "sorted", "list", "tuple")]
+            self.assertEqual(len(held), len(nodes(tree, ast.GeneratorExp)), path.name)
+
     def test_values_and_statements(self):
         for path, tree in trees():
             self.assertEqual(nodes(tree, (ast.Div, ast.Global, ast.AsyncFunctionDef)), [], path.name)

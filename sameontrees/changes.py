@@ -1,0 +1,90 @@
+"""Forms in other coordinates.
+
+A change of a kind is (outward, inward), two matrices: the new vector is the product of outward and
+the old one, and the old one is what maps are told by, the product of inward and the new one. The
+rows of outward are as many as the new coordinates, those of inward as many as the old ones.
+"""
+
+from sameontrees.basics import ratio_of, scaled
+from sameontrees.forms import MOST_TERMS
+from sameontrees.matrices import product_of_matrices, transposed
+from sameontrees.reached import scaled_terms
+
+
+def changed(form, changes):
+    """The form behind a change for each kind, be it within the bounds of forms or not."""
+    kinds, _, maps, reads = form
+    change_of = {name: change for (name, _), change in zip(kinds, changes)}
+    found = []
+    for (name, makers), own in zip(kinds, maps):
+        outward, _ = change_of[name]
+        of_kind = [with_rows_changed(outward, with_columns_changed(change_of, fields, terms))
+                   for (_, fields), terms in zip(makers, own)]
+        found.append(tuple(of_kind))
+    new_reads = [(name, kind, _read_changed(change_of[kind][1], vector))
+                 for name, kind, vector in reads]
+    dims = tuple([len(outward) for outward, _ in changes])
+    return (kinds, dims, tuple(found), tuple(new_reads))
+
+
+def with_columns_changed(change_of, fields, terms):
+    """The terms of a maker with these fields with the old columns exchanged by the new ones."""
+    tops, bottom = _flat(terms)
+    for place, field in enumerate(fields):
+        if field != "number":
+            _, inward = change_of[field]
+            tops, bottom = _exchanged(tops, bottom, 1 + place, inward)
+    return _as_terms(tops, bottom)
+
+
+def with_rows_changed(outward, terms):
+    """The terms with their rows mixed by the matrix outward."""
+    tops, bottom = _flat(terms)
+    width = len(outward[0]) if len(outward) > 0 else 0
+    if width == 0:
+        return ()
+    tops, bottom = _exchanged(tops, bottom, 0, transposed(outward, width))
+    return _as_terms(tops, bottom)
+
+
+def has_many_terms(form):
+    """Whether a maker has more terms than it has in a form."""
+    return any([len(terms) > MOST_TERMS for own in form[2] for terms in own])
+
+
+def _read_changed(inward, vector):
+    """The vector of a read, in the new coordinates."""
+    (row,) = product_of_matrices((vector,), inward) if len(vector) > 0 else ((),)
+    return row
+
+
+def _flat(terms):
+    """A dict of integers by (row, column, column, ..), and the bottom by which they are the terms."""
+    tops, bottom = scaled_terms(terms)
+    return ({(row,) + cols: top for (row, cols), top in tops.items()}, bottom)
+
+
+def _exchanged(tops, bottom, place, matrix):
+    """Integers and bottom with the coordinate at the place exchanged by what its row tells."""
+    parts, below = _scaled_rows(matrix)
+    sums = {}
+    for key, top in tops.items():
+        ahead = key[:place]
+        behind = key[place + 1:]
+        for coordinate, weight in parts[key[place]]:
+            fresh = ahead + (coordinate,) + behind
+            sums[fresh] = sums.get(fresh, 0) + top * weight
+    return ({key: top for key, top in sums.items() if top != 0}, bottom * below)
+
+
+def _scaled_rows(matrix):
+    """For each row a list of (place, integer) that are not 0, and the bottom of all integers."""
+    tops, bottom = scaled([ratio for row in matrix for ratio in row])
+    width = len(matrix[0]) if len(matrix) > 0 else 0
+    rows = [tops[at * width:(at + 1) * width] for at in range(len(matrix))]
+    return ([[(place, top) for place, top in enumerate(row) if top != 0] for row in rows], bottom)
+
+
+def _as_terms(tops, bottom):
+    """The terms, ascending."""
+    return tuple([(key[0], key[1:], ratio_of(tops[key], bottom)) for key in sorted(tops)])
