@@ -12,14 +12,15 @@ from sameontrees.reached import scaled_terms
 
 
 def changed(form, changes):
-    """The form behind a change for each kind, be it within the bounds of forms or not."""
+    """The form behind a change for each kind, None if a maker has too many terms for a form."""
     kinds, _, maps, reads = form
     change_of = {name: change for (name, _), change in zip(kinds, changes)}
     found = []
     for (name, makers), own in zip(kinds, maps):
-        outward, _ = change_of[name]
-        of_kind = [with_rows_changed(outward, with_columns_changed(change_of, fields, terms))
+        of_kind = [_terms_changed(change_of, name, fields, terms)
                    for (_, fields), terms in zip(makers, own)]
+        if None in of_kind:
+            return None
         found.append(tuple(of_kind))
     new_reads = [(name, kind, _read_changed(change_of[kind][1], vector))
                  for name, kind, vector in reads]
@@ -47,9 +48,18 @@ def with_rows_changed(outward, terms):
     return _as_terms(tops, bottom)
 
 
-def has_many_terms(form):
-    """Whether a maker has more terms than it has in a form."""
-    return any([len(terms) > MOST_TERMS for own in form[2] for terms in own])
+def _terms_changed(change_of, kind, fields, terms):
+    """The terms of a maker behind the change, None if they are too many for a form."""
+    outward, _ = change_of[kind]
+    mixed = with_rows_changed(outward, terms)
+    found = []
+    # Row by row, as it often shows early that there are too many.
+    for row in range(len(outward)):
+        own = [term for term in mixed if term[0] == row]
+        found.extend(with_columns_changed(change_of, fields, own))
+        if len(found) > MOST_TERMS:
+            return None
+    return tuple(found)
 
 
 def _read_changed(inward, vector):

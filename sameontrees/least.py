@@ -1,7 +1,7 @@
 """Least forms, tables that show that no form has fewer coordinates, and what leads between them."""
 
 from sameontrees.basics import is_tuple, times_vector
-from sameontrees.changes import changed, has_many_terms
+from sameontrees.changes import changed
 from sameontrees.contexts import are_contexts, covector_of
 from sameontrees.errors import NotLeast, TooGreat
 from sameontrees.forms import demand_form, vectors_of
@@ -24,7 +24,7 @@ def least(form):
         weights = product_of_matrices(transposed(inverse, len(trees)), covectors)
         changes.append((weights, transposed([vectors[index] for index in trees], dim)))
     told = changed(form, changes)
-    if has_many_terms(told):
+    if told is None:
         raise TooGreat("a maker of the least form has too many terms")
     return told
 

@@ -1,7 +1,7 @@
 """Logs of steps, each of which changes a form and keeps what its reads tell."""
 
 from sameontrees.basics import is_below, is_tuple, unit
-from sameontrees.changes import changed, has_many_terms, with_columns_changed, with_rows_changed
+from sameontrees.changes import changed, with_columns_changed, with_rows_changed
 from sameontrees.errors import BadLog, NotLet
 from sameontrees.forms import demand_form, is_form
 from sameontrees.matrices import are_inverse, is_square_of, is_vector, transposed
@@ -50,10 +50,7 @@ def _behind_onward(form, step):
     if not is_tuple(step, 2, 2) or not isinstance(step[0], str):
         return None
     changes = _changes(form, step)
-    if changes is None:
-        return None
-    told = changed(form, changes)
-    return None if has_many_terms(told) else told
+    return None if changes is None else changed(form, changes)
 
 
 def _changes(form, step):

@@ -4,12 +4,14 @@ import copy
 import inspect
 import unittest
 
-from sameontrees import (checks, equal, forms, least, logs, matrices, programs, reached, seen,
-                         trees)
-from sameontrees.errors import (BadContext, BadForm, BadKind, BadKinds, BadLog, BadMatrix, BadName,
-                                BadProgram, BadRows, BadTree, BadVector)
+from sameontrees import (checks, equal, forms, learning, least, logs, matrices, programs, reached,
+                         rewriters, seen, sums, trees, whole)
+from sameontrees.errors import (BadContext, BadForm, BadKind, BadKinds, BadLimit, BadLog, BadMatrix,
+                                BadName, BadProgram, BadRewriter, BadRows, BadText, BadTree,
+                                BadVector)
 from tests.common import BINARY, LEAVES, MIXED, NEVER, S, is_plain, raised, spoilt
 from tests.test_least import LEAST_S
+from tests.test_rewriters import MIRROR
 from tests.test_steps import COPIES, TWICE
 from tests.test_tables import EXAMPLE
 
@@ -66,19 +68,30 @@ CALLS = (
     (equal, "is_same", {"one": S, "other": COPIES, "thing": equal.same(S, COPIES)[1]}),
     (equal, "is_part", {"one": S, "other": LEAVES, "thing": ("size", PAIR_ROWS, (3, 1), (2, 1))}),
     (equal, "same_log", {"one": S, "other": COPIES}),
+    (rewriters, "is_rewriter", {"thing": MIRROR}),
+    (rewriters, "rewritten", {"rewriter": MIRROR, "name": "turn", "words": WORDS}),
+    (rewriters, "composed", {"rewriter": MIRROR, "form": forms.formed(PROGRAM)}),
+    (sums, "sums", {"form": S, "name": "size", "most": 5}),
+    (sums, "counts", {"form": S, "kind": "Tree", "most": 7}),
+    (sums, "product_form", {"one": S, "other": LEAVES}),
+    (whole, "settled", {"text": TEXT, "other": TEXT}),
+    (whole, "lessened", {"text": TEXT}),
 )
 
 ERRORS = {"kinds": BadKinds, "kind": BadKind, "one": BadTree, "other": BadTree, "words": BadTree,
           "rows": BadRows, "program": BadProgram, "name": BadName, "form": BadForm,
-          "context": BadContext}
+          "context": BadContext, "most": BadLimit, "rewriter": BadRewriter, "text": BadText}
 ERRORS_OF_MATRICES = {"rows": BadMatrix, "one": BadMatrix, "other": BadMatrix, "target": BadVector}
 ERRORS_OF_FORMS = {**ERRORS, "one": BadForm, "other": BadForm}
+ERRORS_OF_TEXTS = {"text": BadText, "other": BadText}
 
 
 def errors_of(module):
     """The errors that are named for parameters in the module."""
     if module is matrices:
         return ERRORS_OF_MATRICES
+    if module is whole:
+        return ERRORS_OF_TEXTS
     return ERRORS if module is trees else ERRORS_OF_FORMS
 
 
@@ -88,6 +101,8 @@ def never_as(module, parameter):
     The name of a kind may be a str, and () the rows of no trees, or a matrix.
     """
     things = [thing for thing in NEVER if parameter != "kind" or not isinstance(thing, str)]
+    if parameter == "most":
+        return [thing for thing in things if repr(thing) not in ("0", "1")]
     if module is matrices:
         return [thing for thing in things if repr(thing) not in ("()", "((),)")]
     if module in (seen, least) and parameter == "rows":
@@ -122,7 +137,7 @@ class Interface(unittest.TestCase):
     def test_the_results_of_right_arguments(self):
         told = {name: getattr(module, name)(**arguments) for module, name, arguments in CALLS}
         for name in ("is_kinds", "is_tree", "is_rows", "ahead", "is_program", "is_form", "is_closing",
-                     "is_seen", "is_table", "is_between", "is_same", "is_part"):
+                     "is_seen", "is_table", "is_between", "is_same", "is_part", "is_rewriter"):
             self.assertIs(told[name], True)
         self.assertEqual(told["sizes"], (1, 3))
         self.assertEqual(told["rows_of"], ROWS)
@@ -143,6 +158,31 @@ class Interface(unittest.TestCase):
         self.assertEqual(told["stepped"], S)
         self.assertEqual(told["replayed"], S)
         self.assertEqual(logs.replayed(S, told["same_log"]), COPIES)
+        self.assertEqual(told["rewritten"], WORDS)
+        self.assertEqual(told["sums"][5], (10, 1))
+        self.assertEqual(told["counts"], (0, 1, 0, 1, 0, 2, 0, 5))
+        self.assertEqual(told["settled"], ("same", ()))
+
+
+class Classes(unittest.TestCase):
+
+    def test_the_teacher_has_its_own_methods(self):
+        self.assertEqual(learning.Teacher.__module__, "sameontrees.learning")
+        parameters = {"__init__": ["form"], "kinds": [], "reads": [], "number": ["name", "rows"],
+                      "parts": ["form"], "asked": []}
+        for name, own in parameters.items():
+            method = vars(learning.Teacher)[name]
+            self.assertEqual(list(inspect.signature(method).parameters)[1:], own)
+        self.assertEqual(list(inspect.signature(learning.learn).parameters), ["teacher"])
+        self.assertEqual(learning.learn.__module__, "sameontrees.learning")
+
+    def test_what_a_teacher_tells_is_plain(self):
+        teacher = learning.Teacher(S)
+        for told in (teacher.kinds(), teacher.reads(), teacher.number("size", PAIR_ROWS),
+                     teacher.parts(LEAVES), teacher.parts(S), teacher.asked(),
+                     learning.learn(teacher), teacher.asked()):
+            self.assertTrue(is_plain(told))
+        self.assertEqual(learning.learn(teacher=learning.Teacher(form=COPIES)), LEAST_S)
 
 
 class WrongArguments(unittest.TestCase):
@@ -200,6 +240,7 @@ class WrongArguments(unittest.TestCase):
             self.assertIs(least.is_between(S, S, thing), False)
             self.assertIs(equal.is_same(S, S, thing), False)
             self.assertIs(equal.is_part(S, S, thing), False)
+            self.assertIs(rewriters.is_rewriter(thing), False)
             self.assertIs(trees.is_kinds(thing), False)
             self.assertIs(trees.is_tree(BINARY, "Tree", thing), False)
             self.assertIs(trees.is_rows(BINARY, thing), False)

@@ -45,3 +45,14 @@ def ring_form(dim):
     kinds = (("Nat", (("Zero", ()), ("Next", ("Nat",)))),)
     turn = tuple(sorted((((at + 1) % dim), (at,), ONE) for at in range(dim)))
     return (kinds, (dim,), ((((0, (), ONE),), turn),), (("last", "Nat", unit(dim, dim - 1)),))
+
+
+def deep_pair(more):
+    """Two forms that are parted first by a tree with so many rows, from 34 to 48."""
+    kinds = (("A", (("Az", ()), ("As", ("A",)))), ("B", (("Bz", ("A",)), ("Bs", ("B",)))))
+    dim = more - 32
+    ends = tuple((at + 1, (at,), ONE) for at in range(15))
+    turns = ((0, (15,), ONE),) + ends
+    last = (((0, (15,), ONE),), tuple((at + 1, (at,), ONE) for at in range(dim - 1)))
+    return [(kinds, (16, dim), ((((0, (), ONE),), own), last), (("b", "B", unit(dim, dim - 1)),))
+            for own in (ends, turns)]
