@@ -64,7 +64,7 @@ def _terms_changed(change_of, kind, fields, terms):
 
 def _read_changed(inward, vector):
     """The vector of a read, in the new coordinates."""
-    (row,) = product_of_matrices((vector,), inward) if len(vector) > 0 else ((),)
+    (row,) = product_of_matrices((vector,), inward)
     return row
 
 

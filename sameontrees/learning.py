@@ -3,7 +3,7 @@
 from sameontrees.basics import sum_of, times_vector, unit
 from sameontrees.errors import TooGreat
 from sameontrees.forms import (MOST_TERMS, demand_form, maps_by_maker, number_of, parts_of_entries,
-                               vector_of_maker, vectors_of)
+                               vector_of_maker)
 from sameontrees.grove import Grove
 from sameontrees.joined import demand_like, heads_of, joint_reached
 from sameontrees.least import least
@@ -63,8 +63,8 @@ def learn(teacher):
     form = lesson.guess()
     part = teacher.parts(form)
     while part is not None:
-        name, rows = part
-        lesson.take(form, name, rows)
+        _, rows = part
+        lesson.take(form, rows)
         form = lesson.guess()
         part = teacher.parts(form)
     return least(form)
@@ -98,17 +98,16 @@ class Lesson:
             raise TooGreat("a maker of the form that is learned has too many terms")
         return (kinds, dims, tuple(maps), tuple(reads))
 
-    def take(self, form, name, rows):
+    def take(self, form, rows):
         """Take a tree and a context that part the guess from the teacher's form.
 
-        The read with the name tells unlike numbers of the rows' tree. From its root on, each part
-        is exchanged for kept trees as long as the context around still tells unlike numbers; a
-        part that can not be exchanged so is gone into, with the context around it.
+        A read tells unlike numbers of a tree of the rows. From its root on, each part is exchanged
+        for kept trees as long as the context around it still tells unlike numbers; a part that can
+        not be exchanged so is gone into, with the context around it.
         """
-        vectors = vectors_of(form, rows)
         indexes = self.grove.put_all(rows)
+        name, at, vectors = self._first_parted(form, rows, indexes)
         steps = ()
-        at = len(rows) - 1
         place, entries = self._exchanged(form, (name, steps), rows[at], vectors, indexes)
         while place is not None:
             maker, parts = rows[at]
@@ -119,6 +118,22 @@ class Lesson:
         kind = kind_of(self.grove.makers, maker)
         self.trees[kind].append(self.grove.put(maker, entries))
         self.contexts[kind].append((name, steps))
+
+    def _first_parted(self, form, rows, indexes):
+        """(name, index, vectors): a read that parts the guess, by the first row's tree that does so.
+
+        It may come long ahead of the last row, where what the guess tells may be very great.
+        """
+        maps = maps_by_maker(form)
+        vectors = []
+        for index, (maker, entries) in enumerate(rows):
+            dim, fields, terms = maps[maker]
+            vectors.append(vector_of_maker(dim, terms, parts_of_entries(vectors, fields, entries)))
+            for name, kind, vector in form[3]:
+                if kind == kind_of(self.grove.makers, maker):
+                    if times_vector(vector, vectors[index]) != self._number(name, indexes[index]):
+                        return (name, index, vectors)
+        return None
 
     def _exchanged(self, form, context, row, vectors, indexes):
         """(place, entries): the row's entries, exchanged for kept trees ahead of the place.

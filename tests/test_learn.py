@@ -10,7 +10,7 @@ from sameontrees.least import least
 from sameontrees.programs import read_program
 from sameontrees.trees import is_rows, makers_of
 from tests import reference
-from tests.common import LEAVES, MIXED_FORM, S, dims_form, full_form, lone_form, raised
+from tests.common import (LEAVES, MIXED_FORM, PAIRS, S, dims_form, full_form, lone_form, raised)
 from tests.disguise import disguised, with_copies
 from tests.test_least import small_forms
 from tests.wide import deep_pair, products_form, ring_form
@@ -73,6 +73,52 @@ class Rambling(Counting):
         return told
 
 
+class Told(Counting):
+    """A teacher who parts forms by the first of the trees that are told ahead, if one does."""
+
+    def __init__(self, form, trees):
+        Counting.__init__(self, form)
+        self.form = form
+        self.trees = trees
+
+    def parts(self, form):
+        told = Counting.parts(self, form)
+        name = self.form[3][0][0]
+        for rows in self.trees:
+            if remainder(self.form, rows) != remainder(form, rows):
+                self.told[-1] = (name, rows)
+                return (name, rows)
+        return told
+
+
+PRIME = 2 ** 61 - 1
+
+
+def remainder(form, rows):
+    """What the first read tells of the rows' tree, by a prime: the number may be too great to write."""
+    makers = reference.makers_in(form[0])
+    found = []
+    for maker, entries in rows:
+        at, place, fields = makers[maker]
+        parts = [(1, entry) if field == "number" else found[entry]
+                 for field, entry in zip(fields, entries)]
+        vector = [0] * form[1][at]
+        for row, cols, (top, bottom) in form[2][at][place]:
+            value = top * pow(bottom, -1, PRIME)
+            for part, col in zip(parts, cols):
+                value = value * part[col] % PRIME
+            vector[row] = (vector[row] + value) % PRIME
+        found.append(vector)
+    told = [top * pow(bottom, -1, PRIME) * entry
+            for (top, bottom), entry in zip(form[3][0][2], found[-1])]
+    return sum(told) % PRIME
+
+
+def full_tree(many):
+    """So many rows of a tree with as many leaves as may be."""
+    return (("Leaf", ()),) + tuple(("Node", (at, at)) for at in range(many - 1))
+
+
 def drawn_rows(chance, kinds, many):
     """Rows of the kinds, that are no trees of the sequence's beginning, as many at most."""
     makers = makers_of(kinds)
@@ -125,6 +171,7 @@ class Learn(unittest.TestCase):
         self.judged(other, form)
         self.assertEqual(one.asked(), other.asked())
         self.assertEqual(other.held.asked(), other.asked())
+        self.assertEqual(len(set(other.numbers)), len(other.numbers))
         for name, rows in other.numbers:
             self.assertTrue(is_rows(form[0], rows))
             self.assertIn(name, [read for read, _ in other.reads()])
@@ -204,6 +251,27 @@ class Learn(unittest.TestCase):
         for dim in (2, 3, 5, 6):
             self.judged(Rambling(ring_form(dim), chance, 40), ring_form(dim))
 
+    def test_integers_that_are_neither_0_nor_1(self):
+        # What parts tells has integers that have to be exchanged for 0 or 1, whichever is wrong.
+        text = "kind N { One(number) Two(N, number) } "
+        for first, second in (("(1 + (-1 * n))", "(f(m) * n)"), ("n", "(f(m) + (2 * n))"),
+                              ("(1/2 + n)", "(f(m) * (3 + n))"), ("5", "((1 + (-1 * n)) * f(m))")):
+            form = formed(read_program(f"{text} fun f(N) {{ One(n) = {first}; Two(m, n) = {second}; }}"))
+            for integer in (2, -1, 3, -2, 7, 10 ** 20):
+                teacher = Told(form, [(("One", (integer,)),), (("One", (integer,)), ("Two", (0, integer))),
+                                      (("One", (1 - integer,)), ("Two", (0, integer)), ("Two", (1, 2)))])
+                self.judged(teacher, form)
+        chance = random.Random(159)
+        done = 0
+        while done < 60:
+            kinds = reference.random_kinds(chance, 2, 1, ("number",) * 4)
+            form = reference.random_form(chance, kinds, 3, 0.6)
+            lone = all(sum(field != "number" for field in fields) < 2
+                       for _, makers in form[0] for _, fields in makers)
+            if "number" in str(kinds) and lone:
+                self.judged(Rambling(form, chance, 4), form)
+                done += 1
+
     def test_it_never_is_too_great_for_few_coordinates(self):
         # Six coordinates here and six in the least form, makers with three fields, nine of them.
         chance = random.Random(158)
@@ -237,6 +305,26 @@ class Learn(unittest.TestCase):
 
         raised(TooGreat, learn, Mute(S))
 
+    def test_trees_to_ask_for_with_many_rows(self):
+        # Full trees, of which nothing is told but by what stands over them: the context around a
+        # part has as many rows again as the tree has. The read tells 1 of each tree.
+        kinds = PAIRS + (("Root", (("Top", ("Tree",)),)),)
+        ones = (((0, (), ONE),), ((0, (0, 0), ONE),))
+        form = (kinds, (1, 1), (ones, (((0, (0,), ONE),),)), (("one", "Root", (ONE,)),))
+        for many, right in ((2, True), (30, True), (39, True), (60, False), (95, False)):
+            teacher = Told(form, [full_tree(many) + (("Top", (many - 1,)),)])
+            if right:
+                self.judged(teacher, form)
+                self.assertGreater(max(len(rows) for _, rows in teacher.numbers), many)
+            else:
+                raised(TooGreat, learn, teacher)
+            self.assertLessEqual(max(len(rows) for _, rows in teacher.numbers), 96)
+
+    def test_trees_with_very_many_makers(self):
+        # What is guessed of a full tree may be too great to write; so smaller ones are looked at first.
+        for form in (S, LEAVES, with_copies(S)):
+            self.judged(Told(form, [full_tree(40)]), form)
+
     def test_trees_with_many_rows(self):
         for many in (34, 40, 48):
             for form in deep_pair(many):
@@ -245,6 +333,8 @@ class Learn(unittest.TestCase):
     def test_forms_on_the_way_that_are_too_great(self):
         raised(TooGreat, learn, Teacher(products_form((8,), ("A",) * 4)))
         self.both(products_form((4, 3), ("A", "B", "B")))
+        # Here only the last form on the way has more than 4,000 terms.
+        raised(TooGreat, learn, Teacher(products_form((8, 10, 5), ("A", "B", "B", "C"), True)))
 
 
 if __name__ == "__main__":

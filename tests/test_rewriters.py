@@ -182,6 +182,11 @@ class IsRewriter(unittest.TestCase):
         self.refused((MIXED, BINARY, LISTS[2]))
         self.refused((LISTS[0], BINARY, LISTS[2]))
 
+    def test_states_of_another_length(self):
+        self.refused(with_part(MIRROR, (2, 0), MIRROR[2][0] + ((),)))
+        self.refused(with_part(MIRROR, (2, 0), MIRROR[2][0][:3]))
+        self.refused(MIRROR[:2] + (MIRROR[2][0],))
+
     def test_a_rule_for_each_maker(self):
         rules = MIRROR[2][0][3]
         for wrong in ((), rules[:1], rules + rules[:1], rules[::-1]):
@@ -497,6 +502,18 @@ class TooGreatForms(unittest.TestCase):
                 self.assertEqual(len(composed(rewriter, form)[2][0][2]), 1 + dim ** 5)
             else:
                 raised(TooGreat, composed, rewriter, form)
+
+    def test_rows_ahead_may_have_more_terms(self):
+        # Over two pairs in a pair there are 6 ** 5 products; the last row uses one coordinate of it.
+        kinds = (("T", (("Leaf", ()), ("Pair", ("T", "T")), ("Top", ("T",)), ("Four", ("T",) * 4))),)
+        inner = [("Pair", (("state", "s", at), ("state", "s", at + 1))) for at in (0, 2)]
+        rule = (*inner, ("Pair", (0, 1)), ("Top", (2,)))
+        pair = tuple((row, (one, other), (row + one + 1, 1)) for row in range(6)
+                     for one in range(6) for other in range(6))
+        form = (kinds, (6,), ((((0, (), ONE),), pair, ((1, (2,), ONE),), ()),), (("r", "T", (ONE,) * 6),))
+        leaf = (("Leaf", ()),)
+        told = composed((kinds, kinds, (("s", "T", "T", (leaf, leaf, leaf, rule)),)), form)
+        self.assertEqual(len(told[2][0][3]), 1 + 6 ** 4)
 
     def test_4000_terms_and_one_more(self):
         # A maker with as many terms as may be, of which the row 0 is one too many.

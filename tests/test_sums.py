@@ -246,6 +246,8 @@ class Products(unittest.TestCase):
             return (kinds, (dim,), (((), tuple((*place, ONE) for place in places)),), ())
 
         self.assertEqual(len(product_form(form(4, 80), form(4, 50))[2][0][1]), 4000)
+        self.assertEqual(len(product_form(form(8, 4000), form(1, 1))[2][0][1]), 4000)
+        self.assertEqual(product_form(form(8, 4000), form(1, 0))[2][0][1], ())
         raised(TooGreat, product_form, form(4, 81), form(4, 50))
         raised(TooGreat, product_form, form(4, 256), form(4, 256))
 
