@@ -151,8 +151,8 @@ class Lesson:
             told = [self._number_over(context, maker, _with_entry(entries, place, entry))
                     for _, entry, _ in choices]
             made = times_vector([weight for weight, _, _ in choices], told)
-            # What an integer makes is always made of what 0 and 1 make.
-            if field != "number" and made != self._number_over(context, maker, entries):
+            # For an integer this never is so: what it makes, 0 and 1 make.
+            if made != self._number_over(context, maker, entries):
                 return (place, entries)
             over = [_with_entry(weights, place, vector) for _, _, vector in choices]
             guessed = [times_vector(known, vector_of_maker(dim, terms, parts)) for parts in over]

@@ -83,19 +83,20 @@ class Told(Counting):
 
     def parts(self, form):
         told = Counting.parts(self, form)
-        name = self.form[3][0][0]
         for rows in self.trees:
-            if remainder(self.form, rows) != remainder(form, rows):
-                self.told[-1] = (name, rows)
-                return (name, rows)
+            for (name, kind, _), one, other in zip(form[3], remainders(self.form, rows),
+                                                   remainders(form, rows)):
+                if one != other and kind == makers_of(form[0])[rows[-1][0]][0]:
+                    self.told[-1] = (name, rows)
+                    return (name, rows)
         return told
 
 
 PRIME = 2 ** 61 - 1
 
 
-def remainder(form, rows):
-    """What the first read tells of the rows' tree, by a prime: the number may be too great to write."""
+def remainders(form, rows):
+    """What each read tells of the rows' tree, by a prime: the numbers may be too great to write."""
     makers = reference.makers_in(form[0])
     found = []
     for maker, entries in rows:
@@ -109,9 +110,8 @@ def remainder(form, rows):
                 value = value * part[col] % PRIME
             vector[row] = (vector[row] + value) % PRIME
         found.append(vector)
-    told = [top * pow(bottom, -1, PRIME) * entry
-            for (top, bottom), entry in zip(form[3][0][2], found[-1])]
-    return sum(told) % PRIME
+    return [sum(top * pow(bottom, -1, PRIME) * entry
+                for (top, bottom), entry in zip(vector, found[-1])) % PRIME for _, _, vector in form[3]]
 
 
 def full_tree(many):
@@ -261,6 +261,12 @@ class Learn(unittest.TestCase):
                 teacher = Told(form, [(("One", (integer,)),), (("One", (integer,)), ("Two", (0, integer))),
                                       (("One", (1 - integer,)), ("Two", (0, integer)), ("Two", (1, 2)))])
                 self.judged(teacher, form)
+        # The second read is guessed right over 0 alone, or over 1 alone.
+        text = "kind N { One(number) } fun a(N) { One(n) = "
+        for first, second in (("1", "(5 + n)"), ("n", "(3 + (2 * n))")):
+            form = formed(read_program(f"{text} {first}; }} fun b(N) {{ One(n) = {second}; }}"))
+            for integer in (7, 2, 3, -1, -2):
+                self.judged(Told(form, [(("One", (integer,)),)]), form)
         chance = random.Random(159)
         done = 0
         while done < 60:
@@ -333,7 +339,9 @@ class Learn(unittest.TestCase):
     def test_forms_on_the_way_that_are_too_great(self):
         raised(TooGreat, learn, Teacher(products_form((8,), ("A",) * 4)))
         self.both(products_form((4, 3), ("A", "B", "B")))
-        # Here only the last form on the way has more than 4,000 terms.
+        # Here only the last form on the way has 4,000 terms, and one more.
+        many = products_form((8, 10, 5), ("A", "B", "B", "C"))
+        self.judged(Teacher(many), many)
         raised(TooGreat, learn, Teacher(products_form((8, 10, 5), ("A", "B", "B", "C"), True)))
 
 
