@@ -67,7 +67,9 @@ class Composer:
             bottom *= below
         open_terms = {}
         for (row, cols), top in tops.items():
-            open_terms.setdefault(row, {})[(cols, (0,) * many)] = top
+            if row not in open_terms:
+                open_terms[row] = {}
+            open_terms[row][(cols, (0,) * many)] = top
         sums = {}
         for row in open_terms:
             closed = open_terms[row]
@@ -92,7 +94,9 @@ class Composer:
             tops, bottom = self._tree_of_state(state, place, many), 1
         choices = {}
         for (row, used), top in tops.items():
-            choices.setdefault(row, {})[used] = top
+            if row not in choices:
+                choices[row] = {}
+            choices[row][used] = top
         return (choices, bottom)
 
     def _tree_of_state(self, state, field, many):

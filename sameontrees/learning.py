@@ -191,12 +191,11 @@ class Lesson:
             entries = tuple([col if field == "number" else self.trees[field][col]
                              for field, col in zip(fields, cols)])
             told = tuple([self._number_over(context, maker, entries) for context in contexts])
-            (weights_at[cols],) = product_of_matrices((told,), inverse)
+            (weights,) = product_of_matrices((told,), inverse)
+            weights_at[cols] = weights
         for place, field in enumerate(fields):
             if field == "number":
-                weights_at = {cols: weights if cols[place] == 0
-                              else _difference(weights, weights_at[_with_entry(cols, place, 0)])
-                              for cols, weights in weights_at.items()}
+                weights_at = _less_at_0(weights_at, place)
         return tuple([(row, cols, weights_at[cols][row])
                       for row in range(len(contexts)) for cols in sorted(weights_at)
                       if weights_at[cols][row][0] != 0])
@@ -233,6 +232,13 @@ def _places_within(widths):
     for width in widths:
         found = [places + (place,) for places in found for place in range(width)]
     return found
+
+
+def _less_at_0(weights_at, place):
+    """What stands at 1 of a number field less what stands at 0, where columns have 1 at the place."""
+    return {cols: weights if cols[place] == 0
+            else _difference(weights, weights_at[_with_entry(cols, place, 0)])
+            for cols, weights in weights_at.items()}
 
 
 def _difference(one, other):
