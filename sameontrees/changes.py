@@ -1,8 +1,8 @@
 """Forms in other coordinates.
 
-A change of a kind is (outward, inward), two matrices: the new vector is the product of outward and
-the old one, and the old one is what maps are told by, the product of inward and the new one. The
-rows of outward are as many as the new coordinates, those of inward as many as the old ones.
+A change of a kind is a pair (outward, inward) of matrices: the new vector of a tree is the product
+of outward and its old vector; where maps and reads use the old vector, they come to use the product
+of inward and the new one. So outward has a row for each new coordinate, inward for each old one.
 """
 
 from sameontrees.basics import ratio_of, scaled

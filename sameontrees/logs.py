@@ -65,8 +65,9 @@ def _changes(form, step):
     if word == "merge" and all([_is_merge(dim, part) for dim, part in pairs]):
         changes = [_change_of_merge(dim, part) for dim, part in pairs]
         return changes if _is_merge_let(form, changes) else None
-    if word == "unseen" and all([_is_unseen(dim, part) for dim, part in pairs]):
-        return [_change_of_unseen(dim, part) for dim, part in pairs] if _is_let(form, parts) else None
+    if word == "unseen" and all([_are_coordinates(dim, part) for dim, part in pairs]):
+        changes = [_change_of_unseen(dim, part) for dim, part in pairs]
+        return changes if _is_unseen_let(form, parts) else None
     return None
 
 
@@ -83,11 +84,11 @@ def _is_merge(dim, thing):
     if not isinstance(thing, tuple) or not all(is_tuple(pair, 2, 2) for pair in thing):
         return False
     kept = dim - len(thing)
-    return (_is_unseen(dim, tuple([coordinate for coordinate, _ in thing]))
+    return (_are_coordinates(dim, tuple([coordinate for coordinate, _ in thing]))
             and all([is_vector(weights) and len(weights) == kept for _, weights in thing]))
 
 
-def _is_unseen(dim, thing):
+def _are_coordinates(dim, thing):
     """Whether thing is an ascending tuple of coordinates of a kind of the dim."""
     if not isinstance(thing, tuple) or not all(is_below(coordinate, dim) for coordinate in thing):
         return False
@@ -105,9 +106,9 @@ def _change_of_merge(dim, part):
 
 def _is_merge_let(form, changes):
     """Whether each maker's rows, over the new columns, are what those of the kept ones make."""
-    kinds, dims, maps, _ = form
+    kinds, _, maps, _ = form
     change_of = {name: change for (name, _), change in zip(kinds, changes)}
-    for (name, makers), dim, own in zip(kinds, dims, maps):
+    for (name, makers), own in zip(kinds, maps):
         outward, inward = change_of[name]
         for (_, fields), terms in zip(makers, own):
             rows = with_columns_changed(change_of, fields, terms)
@@ -122,7 +123,7 @@ def _change_of_unseen(dim, part):
     return (outward, transposed(outward, dim))
 
 
-def _is_let(form, parts):
+def _is_unseen_let(form, parts):
     """Whether no read and no kept row of a maker uses a coordinate that parts name."""
     kinds, _, maps, reads = form
     named = {name: part for (name, _), part in zip(kinds, parts)}
